@@ -1,13 +1,59 @@
-package run
+// Package turns is a run that goes on, access by access, in lists of its own: layer 31 hands it on as states, layer 33 makes it again from a trace.
+package turns
 
 import (
+	"slices"
+
 	"underwood/api"
+	"underwood/layout"
 	"underwood/mem"
 	"underwood/seat"
 )
 
-// step makes the next access of a worker that may, and all turns that come of it.
-func step(s *api.State, worker int) {
+// Run is a run that goes on.
+type Run struct{ api.State }
+
+// Of is a run that goes on from a state, and writes into nothing of it: what it turns is copied, and what it puts behind lists goes into new memory.
+func Of(s api.State) *Run {
+	s.Mem.Cells = slices.Clone(s.Mem.Cells)
+	s.Seats = slices.Clone(s.Seats)
+	for i := range s.Seats {
+		s.Seats[i].Log, s.Seats[i].Steps = slices.Clip(s.Seats[i].Log), slices.Clip(s.Seats[i].Steps)
+	}
+	s.Sits, s.Alive = slices.Clone(s.Sits), slices.Clone(s.Alive)
+	s.Events, s.Calls = slices.Clip(s.Events), slices.Clip(s.Calls)
+	return &Run{s}
+}
+
+// may tells whether a worker can do something.
+func (s *Run) may(worker int) bool {
+	return !s.Over && worker >= 0 && worker < len(s.Alive) && s.Alive[worker] &&
+		worker < len(s.Sits) && s.Sits[worker] >= 0 && s.Sits[worker] < len(s.Seats)
+}
+
+// Die lets a worker die, if somebody else is alive.
+func (s *Run) Die(worker int) {
+	alive := 0
+	for _, is := range s.Alive {
+		if is {
+			alive++
+		}
+	}
+	if !s.may(worker) || alive < 2 {
+		return
+	}
+	s.Alive[worker] = false
+	if cell := layout.Alive(s.Layout, worker); cell >= 0 && cell < len(s.Mem.Cells) {
+		s.Mem.Cells[cell] = 0
+	}
+	s.Events = append(s.Events, api.Event{Worker: worker, Seat: s.Sits[worker]})
+}
+
+// Step makes a worker's next access, and all turns that come of it.
+func (s *Run) Step(worker int) {
+	if !s.may(worker) {
+		return
+	}
 	k := s.Sits[worker]
 	on := s.Seats[k]
 	if on.Op.Kind == api.OAdopt && on.Op.B != worker {
