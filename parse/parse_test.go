@@ -130,22 +130,37 @@ func TestWrong(t *testing.T) {
 	}
 }
 
+// What ends in the midst of something is no program.
+func TestBeginnings(t *testing.T) {
+	text := "cell c = 7; map m; func f(a, b) { x = (a + 1) * b == c - 2; y = spawn f(1, x); spawn f(2, 3); z = par g(1, 2); if x < 1 { sync; } else { while y { return 1; } } m.put(1, m.get(2)); assert x; }"
+	l, _ := lex.Words(text)
+	for n := range l {
+		_, err := parse.Of(lex.Show(l[:n]))
+		if whole := n == 0 || n == 5 || n == 8; whole != (err == api.OK) || !whole && err != api.ErrForm {
+			t.Error(lex.Show(l[:n]), err)
+		}
+	}
+}
+
 // P5.3, P5.4
 func TestText(t *testing.T) {
 	for text, want := range map[string]string{
 		"": "",
-		" cell  a = 0 ; cell b = 7; map m; stack s; chan c; func main ( ) { } ":          "cell a;cell b=7;map m;stack s;chan c;func main(){}",
-		"func f(a, b) { return a; } func main() { }":                                     "func f(a,b){return a;}func main(){}",
-		"func main() { x = ((1) + 2) + 3; }":                                             "func main(){x=1+2+3;}",
-		"func main() { x = 1 + (2 + 3); }":                                               "func main(){x=1+(2+3);}",
-		"func main() { x = 1 - (2 - 3); }":                                               "func main(){x=1-(2-3);}",
-		"func main() { x = (1 + 2) * (3 * 4); }":                                         "func main(){x=(1+2)*(3*4);}",
-		"func main() { x = (1 * 2) * 3 + (4 * 5); }":                                     "func main(){x=1*2*3+4*5;}",
-		"func main() { x = (1 < 2) == (3 + 4); }":                                        "func main(){x=(1<2)==3+4;}",
-		"func main() { x = (1 < 2) + 3 < (4 == 5); }":                                    "func main(){x=(1<2)+3<(4==5);}",
-		"func main() { return (1); return (1 + 2) * 3; }":                                "func main(){return 1;return(1+2)*3;}",
-		"func main() { if (x) { sync; } else { } while (1 < 2) { } assert 1; }":          "func main(){if x{sync;}else{}while 1<2{}assert 1;}",
-		"func main() { spawn f ( (1) , 2 ) ; y = par f(1, (m.get(1))); m.put(1, (2)); }": "func main(){spawn f(1,2);y=par f(1,m.get(1));m.put(1,2);}",
+		" cell  a = 0 ; cell b = 7; map m; stack s; chan c; func main ( ) { } ":                                  "cell a;cell b=7;map m;stack s;chan c;func main(){}",
+		"func f(a, b) { return a; } func main() { }":                                                             "func f(a,b){return a;}func main(){}",
+		"func main() { x = ((1) + 2) + 3; }":                                                                     "func main(){x=1+2+3;}",
+		"func main() { x = 1 + (2 + 3); }":                                                                       "func main(){x=1+(2+3);}",
+		"func main() { x = 1 - (2 - 3); }":                                                                       "func main(){x=1-(2-3);}",
+		"func main() { x = (1 + 2) * (3 * 4); }":                                                                 "func main(){x=(1+2)*(3*4);}",
+		"func main() { x = (1 * 2) * 3 + (4 * 5); }":                                                             "func main(){x=1*2*3+4*5;}",
+		"func main() { x = (1 < 2) == (3 + 4); }":                                                                "func main(){x=(1<2)==3+4;}",
+		"func main() { x = (1 < 2) + 3 < (4 == 5); }":                                                            "func main(){x=(1<2)+3<(4==5);}",
+		"func main() { if x { } if z { A = Z; } z9 = spawn Z(A, a9, 10, 9, 0); return z; return Z; return a_; }": "func main(){if x{}if z{A=Z;}z9=spawn Z(A,a9,10,9,0);return z;return Z;return a_;}",
+		"func main() { return A; return 0; return 9; return a; par A(z, 1); }":                                   "func main(){return A;return 0;return 9;return a;par A(z,1);}",
+		"func A(z) { return (A); } func Z(a) { }":                                                                "func A(z){return A;}func Z(a){}",
+		"func main() { return (1); return (1 + 2) * 3; }":                                                        "func main(){return 1;return(1+2)*3;}",
+		"func main() { if (x) { sync; } else { } while (1 < 2) { } assert 1; }":                                  "func main(){if x{sync;}else{}while 1<2{}assert 1;}",
+		"func main() { spawn f ( (1) , 2 ) ; y = par f(1, (m.get(1))); m.put(1, (2)); }":                         "func main(){spawn f(1,2);y=par f(1,m.get(1));m.put(1,2);}",
 	} {
 		p, err := parse.Of(text)
 		if err != api.OK {

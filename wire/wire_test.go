@@ -58,8 +58,10 @@ func TestText(t *testing.T) {
 	}
 	for _, s := range []string{"", "a", "\x00\xff", string(make([]byte, 100))} {
 		b := wire.Text(s)
-		if got, n, err := wire.GetText(append(slices.Clone(b), 7)); got != s || n != len(b) || err != api.OK {
-			t.Errorf("GetText of %q: %q %d %v", s, got, n, err)
+		for _, more := range [][]byte{nil, {7}} {
+			if got, n, err := wire.GetText(append(slices.Clone(b), more...)); got != s || n != len(b) || err != api.OK {
+				t.Errorf("GetText of %q: %q %d %v", s, got, n, err)
+			}
 		}
 		if got, n, err := wire.GetText(b[:len(b)-1]); got != "" || n != 0 || err != api.ErrForm {
 			t.Errorf("GetText of less than %q: %q %d %v", s, got, n, err)
@@ -79,8 +81,10 @@ func TestNums(t *testing.T) {
 	}
 	for _, l := range [][]int{nil, {0}, {1, -1, 64}, {math.MaxInt, math.MinInt, 5, 5}, make([]int, 300)} {
 		b := wire.Nums(l)
-		if got, n, err := wire.GetNums(append(slices.Clone(b), 255)); !slices.Equal(got, l) || n != len(b) || err != api.OK {
-			t.Errorf("GetNums of %v: %v %d %v", l, got, n, err)
+		for _, more := range [][]byte{nil, {255}} {
+			if got, n, err := wire.GetNums(append(slices.Clone(b), more...)); !slices.Equal(got, l) || n != len(b) || err != api.OK {
+				t.Errorf("GetNums of %v: %v %d %v", l, got, n, err)
+			}
 		}
 		if got, n, err := wire.GetNums(b[:len(b)-1]); len(got) != 0 || n != 0 || err != api.ErrForm {
 			t.Errorf("GetNums of less than %v: %v %d %v", l, got, n, err)
@@ -123,6 +127,9 @@ func TestSeal(t *testing.T) {
 		got, n, err := wire.Open(append(slices.Clone(s), 9))
 		if !bytes.Equal(got, b) || n != len(s) || err != api.OK {
 			t.Errorf("Open of %v: %v %d %v", b, got, n, err)
+		}
+		if got, n, err := wire.Open(s); !bytes.Equal(got, b) || n != len(s) || err != api.OK {
+			t.Errorf("Open of %v alone: %v %d %v", b, got, n, err)
 		}
 		if len(got) > 0 {
 			got[0]++
