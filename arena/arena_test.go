@@ -59,6 +59,10 @@ func TestList(t *testing.T) {
 	if got := arena.List(l, m); !slices.Equal(got, []int{2, 3}) {
 		t.Error("a cell that is not there", got)
 	}
+	most := lab.Of(api.Conf{Seats: 1, Nodes: api.MaxNode, Buckets: 1, Slots: 1, Tasks: 1})
+	if got := arena.List(most, lab.Memory(most, arena.Init(most, 1)...)); len(got) != api.MaxNode || got[api.MaxNode-1] != api.MaxNode {
+		t.Error("as many nodes as there may be", len(got))
+	}
 	if got := arena.List(l, api.Mem{}); len(got) != 0 {
 		t.Error("no memory", got)
 	}
@@ -86,7 +90,7 @@ func TestAlone(t *testing.T) {
 	} {
 		did, on, out := lab.Alone(l, m, arena.Next, 1, gone, x.op, nil)
 		x.want.Gone = gone
-		if lab.Did(did) != lab.Lines(x.did) || !reflect.DeepEqual(out, x.want) {
+		if lab.Did(did) != lab.Lines(x.did) || !lab.SameOut(out, x.want) {
 			t.Error(i, did, out)
 		}
 		m = on

@@ -37,8 +37,6 @@ func TestChain(t *testing.T) {
 		{uses(0, 1, 2, 2, 3, 3), []int{0, 2, 3, 4, 5}},
 		{uses(2, 1, 1, 2), []int{1, 2}},
 		{uses(1, 2, 2, 1), []int{1, 2}},
-		{uses(1, 2, 0, 3), []int{0, 3}},
-		{uses(3, 0, 1), []int{1, 2}},
 		{uses(1, 2, 1, 2, 3), []int{0, 2, 4}},
 		{api.Elided{Uses: make([]api.Use, 4)}, []int{0, 1, 2, 3}},
 		{api.Elided{Uses: make([]api.Use, 4), Split: []api.Split{{}}}, nil},
@@ -75,7 +73,10 @@ func TestChainOfAll(t *testing.T) {
 		var strands []int
 		for range dice(10) {
 			strands = append(strands, dice(7))
-			e.Uses = append(e.Uses, api.Use{Strand: strands[len(strands)-1]})
+		}
+		slices.SortStableFunc(strands, func(a, b int) int { return o[a][0] - o[b][0] }) // as an elision tells them
+		for _, s := range strands {
+			e.Uses = append(e.Uses, api.Use{Strand: s})
 		}
 		var best []int
 		chains(o, strands, nil, func(row []int) {

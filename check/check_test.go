@@ -28,7 +28,7 @@ func main1(nodes ...api.Node) api.Prog {
 
 // P6.1
 func TestFormed(t *testing.T) {
-	good := read(t, "cell c; func main() { x = 1 + c * 2 - (x < 1); if x == 1 { sync; } else { } while x { assert 1; } return 0; } func f() { m.get(1); spawn f(1, 2); par g(1, 2); if 1 { } }")
+	good := read(t, "cell c; func main() { x = 1 + c * 2 - (x < 1); y = m.get(x) + m.pop(); return m.get(2); if x == 1 { sync; } else { } while x { assert 1; } return 0; } func f() { m.get(1); spawn f(1, 2); par g(1, 2); if 1 { } }")
 	if !check.Formed(good) || !check.Formed(api.Prog{}) {
 		t.Error("what parse tells is formed")
 	}
@@ -39,6 +39,7 @@ func TestFormed(t *testing.T) {
 		main1(num(), of(api.NReturn, 0), of(api.NBlock, 1, 1)),
 		main1(num(), of(api.NReturn, 0), of(api.NReturn, 0), of(api.NBlock, 1, 2)),
 		main1(of(api.NReturn, 0), of(api.NBlock, 0)),
+		main1(of(api.NCall, 0), of(api.NBlock)),
 		main1(of(api.NReturn, 1), num(), of(api.NBlock, 0)),
 		main1(of(api.NReturn, -1), of(api.NBlock, 0)),
 		main1(of(api.NReturn), of(api.NBlock, 0)),

@@ -125,7 +125,7 @@ func TestHeights(t *testing.T) {
 		{[]api.Ins{ins(api.IPush), ins(api.IPush), ins(api.IPush), ins(api.ICall, 2, 0, 2), ins(api.ISpawn, 0, 2, 0), ins(api.ISync), ins(api.IJump, 5)}, []int{0, 1, 2, 3, 2, 0, 0}},
 		{[]api.Ins{ins(api.IPush), ins(api.IZero, 4), ins(api.IPush), ins(api.IDrop), ins(api.IPush), ins(api.IReturn)}, []int{0, 1, 0, 1, 0, 1}},
 		{[]api.Ins{ins(api.IPush), ins(api.IPush), ins(api.IHalf), ins(api.IAssert), ins(api.IPush), ins(api.IStore), ins(api.IJump, 0)}, []int{0, 1, 2, 1, 0, 1, 0}},
-		{[]api.Ins{ins(api.IPush), ins(api.IReturn), ins(api.ICall, 0, 0, -1), ins(api.IJump, 99)}, []int{0, 1, -1, -1}},
+		{[]api.Ins{ins(api.IPush), ins(api.IReturn), ins(api.IDrop), ins(api.IJump, 2)}, []int{0, 1, -1, -1}},
 		{nil, nil},
 		{[]api.Ins{ins(api.IPush)}, nil},
 		{[]api.Ins{ins(api.IReturn)}, nil},
@@ -162,6 +162,25 @@ func TestRight(t *testing.T) {
 		t.Fatal("a code that is right")
 	}
 	for i, turn := range []func(c *api.Code){
+		func(c *api.Code) { c.Funs = c.Funs[:1] },
+		func(c *api.Code) { c.Funs = slices.Repeat(c.Funs[:1], 32) },
+		func(c *api.Code) { c.Main, c.Funs[1].Args = 1, 0 },
+		func(c *api.Code) { c.Cells = make([]int, 16) },
+		func(c *api.Code) { c.Cells = nil },
+		func(c *api.Code) { c.Cells[0] = api.Wrap - 1 },
+		func(c *api.Code) { c.Maps, c.Stacks, c.Chans = 8, 8, 8 },
+		func(c *api.Code) { c.Maps, c.Stacks, c.Chans = 0, 0, 0 },
+		func(c *api.Code) { c.Funs[1].Args, c.Funs[1].Locals = 16, 16 },
+		func(c *api.Code) { c.Funs[1].Ins = []api.Ins{ins(api.IJump)} },
+		func(c *api.Code) { c.Funs[1].Ins = append(slices.Repeat([]api.Ins{ins(api.ISync)}, 398), ret...) },
+	} {
+		c := good()
+		turn(&c)
+		if !compile.Right(c) {
+			t.Errorf("%d: %v is not right", i, c)
+		}
+	}
+	for i, turn := range []func(c *api.Code){
 		func(c *api.Code) { c.Funs = nil },
 		func(c *api.Code) { c.Funs = slices.Repeat(c.Funs[:1], 33) },
 		func(c *api.Code) { c.Main = 2 },
@@ -194,7 +213,7 @@ func TestRight(t *testing.T) {
 		ins(api.ICall, api.OPush, 0, 1): true, ins(api.ICall, api.OPush, -1, 1): false, ins(api.ICall, api.OPop, 0, 0): true, ins(api.ICall, api.OPop, 0, 1): false,
 		ins(api.ICall, api.OSend, 0, 1): true, ins(api.ICall, api.ORecv, 0, 0): true, ins(api.ICall, api.ORecv, 1, 0): false, ins(api.ICall, 0, 0, 0): false, ins(api.ICall, api.OPushD, 0, 1): false,
 		ins(api.ISpawn, 0, 0, -1): true, ins(api.ISpawn, 1, 1, 15): true, ins(api.ISpawn, 1, 0, 0): false, ins(api.ISpawn, 2, 0, 0): false, ins(api.ISpawn, 0, 0, 16): false, ins(api.ISpawn, 0, 0, -2): false,
-		ins(api.IJump, 99): true, ins(api.IHalf): true, ins(20): false, ins(0): false,
+		ins(api.IJump, 1): true, ins(api.IHalf): true, ins(20): false, ins(0): false,
 	} {
 		c := good()
 		c.Funs[1].Ins = append(slices.Clone(ret), x) // where nothing comes to it

@@ -1,7 +1,6 @@
 package deque_test
 
 import (
-	"reflect"
 	"slices"
 	"testing"
 
@@ -75,7 +74,7 @@ func TestAlone(t *testing.T) {
 	} {
 		did, _, out := lab.Alone(l, x.m, deque.Next, 2, gone, x.op, nil)
 		x.want.Gone = gone
-		if lab.Did(did) != lab.Lines(x.did) || !reflect.DeepEqual(out, x.want) {
+		if lab.Did(did) != lab.Lines(x.did) || !lab.SameOut(out, x.want) {
 			t.Errorf("%d: %v\n%s", i, out, lab.Did(did))
 		}
 	}

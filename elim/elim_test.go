@@ -26,19 +26,6 @@ func laid(nodes, slots int) (api.Layout, api.Mem) {
 func push(s, a int) api.Op { return api.Op{Kind: api.OPush, Obj: s, A: a} }
 func pop(s int) api.Op     { return api.Op{Kind: api.OPop, Obj: s, A: 3, B: 4} }
 
-func check(t *testing.T, did []string, want string, out, wantOut api.Out) {
-	t.Helper()
-	if lab.Did(did) != lab.Lines(want) {
-		t.Errorf("did:\n%s\nwant:\n%s", lab.Did(did), lab.Lines(want))
-	}
-	if len(out.Gone) == 0 {
-		out.Gone = nil
-	}
-	if !reflect.DeepEqual(out, wantOut) {
-		t.Error(out, wantOut)
-	}
-}
-
 func ref(idx, cnt int) string       { return strconv.Itoa(word.Pack(api.Ref{Idx: idx, Cnt: cnt})) }
 func offer(v, kind, cnt int) string { return strconv.Itoa(word.Offer(v, kind, cnt)) }
 
@@ -56,7 +43,7 @@ func TestSlot(t *testing.T) {
 // P22.4: alone all is as in chapter 21.
 func TestAlone(t *testing.T) {
 	l, m := laid(3, 2)
-	for i, op := range []api.Op{push(0, 5), push(0, 1<<32-1), pop(0), push(1, 7), push(0, 9), push(0, 1), pop(0), pop(0), pop(0), pop(1)} {
+	for i, op := range []api.Op{push(0, 5), push(0, 1<<32-1), pop(0), push(1, 7), push(0, 0), push(0, 1), pop(0), pop(0), pop(0), pop(1)} {
 		did, on, out := lab.Alone(l, m, elim.Next, 1, [][2]int{{3, 1}}, op, nil)
 		did2, _, out2 := lab.Alone(l, m, stack.Next, 1, [][2]int{{3, 1}}, op, nil)
 		if lab.Did(did) != lab.Did(did2) || !reflect.DeepEqual(out, out2) {
@@ -99,7 +86,7 @@ func TestPush(t *testing.T) {
 		got, _, out := lab.Alone(l, m, elim.Next, 2, gone, push(0, 50), meddle(l, more))
 		want.Gone = gone
 		t.Log(what)
-		check(t, got, fill+trial+did, out, want)
+		lab.Check(t, got, fill+trial+did, out, want)
 	}
 	run("nobody comes", offers+"load stack0.1\n load stack0.1\n cas stack0.1 "+offer(50, 1, 1)+" "+offer(0, 0, 1)+"\n"+again, api.Out{Is: true, Point: 16}, nil)
 	run("met at the first look", offers+"load stack0.1\n"+ends, api.Out{Is: true, Point: -12}, map[int]func(m api.Mem){11: set(50, 2, 1)})
@@ -110,9 +97,13 @@ func TestPush(t *testing.T) {
 	run("the offer fails", "load stack0.1\n cas stack0.1 "+offer(0, 0, 4)+" "+offer(50, 1, 5)+" no\n"+again, api.Out{Is: true, Point: 13}, map[int]func(m api.Mem){9: set(0, 0, 4), 10: set(0, 0, 5)})
 	m.Cells[slot] = word.Offer(0, 0, 1<<28-1)
 	run("counts go round", "load stack0.1\n cas stack0.1 "+offer(0, 0, -1)+" "+offer(50, 1, 0)+"\n load stack0.1\n load stack0.1\n cas stack0.1 "+offer(50, 1, 0)+" 0\n"+again, api.Out{Is: true, Point: 16}, nil)
+	got, _, out := lab.Alone(l, m, elim.Next, 2, nil, push(0, 0), meddle(l, nil))
+	if !slices.Contains(got, "cas stack0.1 "+offer(0, 0, -1)+" "+offer(0, 1, 0)) || !out.Is {
+		t.Error("an offer of 0", got, out)
+	}
 	m.Cells[l.Free] = 0
 	did, _, out := lab.Alone(l, m, elim.Next, 2, nil, push(0, 50), nil)
-	check(t, did, "load free", out, api.Out{Err: api.ErrFull})
+	lab.Check(t, did, "load free", out, api.Out{Err: api.ErrFull})
 }
 
 // P22.2
@@ -134,15 +125,15 @@ func TestPop(t *testing.T) {
 	}
 	again := "load stack0.0\n load era\n load node1.0\n cas stack0.0 " + ref(1, 7) + " " + ref(0, 8) + "\n load node1.1\n store resv3.0 0\n load era\n add era 1\n"
 	did, on, out := lab.Alone(l, m, elim.Next, 3, nil, pop(0), fails(77, 1, false))
-	check(t, did, tried+"cas stack0.2 "+offer(77, 1, 6)+" "+offer(77, 2, 6)+"\n store resv3.0 0\n", out, api.Out{Val: 77, Is: true, Point: 8})
+	lab.Check(t, did, tried+"cas stack0.2 "+offer(77, 1, 6)+" "+offer(77, 2, 6)+"\n store resv3.0 0\n", out, api.Out{Val: 77, Is: true, Point: 8})
 	if !slices.Equal(stack.Row(l, on, 0), []int{50}) {
 		t.Error("the stack is another one")
 	}
 	did, _, out = lab.Alone(l, m, elim.Next, 3, nil, pop(0), fails(77, 1, true))
-	check(t, did, tried+"cas stack0.2 "+offer(77, 1, 6)+" "+offer(77, 2, 6)+" no\n"+again, out, api.Out{Val: 50, Is: true, Point: 12, Gone: [][2]int{{1, 5}}})
+	lab.Check(t, did, tried+"cas stack0.2 "+offer(77, 1, 6)+" "+offer(77, 2, 6)+" no\n"+again, out, api.Out{Val: 50, Is: true, Point: 12, Gone: [][2]int{{1, 5}}})
 	for _, kind := range []int{0, 2, 3} {
 		did, _, out = lab.Alone(l, m, elim.Next, 3, nil, pop(0), fails(77, kind, false))
-		check(t, did, tried+again, out, api.Out{Val: 50, Is: true, Point: 11, Gone: [][2]int{{1, 5}}})
+		lab.Check(t, did, tried+again, out, api.Out{Val: 50, Is: true, Point: 11, Gone: [][2]int{{1, 5}}})
 	}
 }
 
@@ -152,7 +143,7 @@ func TestWrong(t *testing.T) {
 	gone := [][2]int{{1, 2}}
 	for _, op := range []api.Op{push(2, 1), push(-1, 1), push(0, -1), push(0, api.Wrap), pop(2), pop(-1), {Kind: 0}, {Kind: api.OSend}, {Kind: api.OGet}} {
 		did, _, out := lab.Alone(l, m, elim.Next, 0, gone, op, nil)
-		check(t, did, "", out, api.Out{Err: api.ErrArg, Point: -1, Gone: gone})
+		lab.Check(t, did, "", out, api.Out{Err: api.ErrArg, Point: -1, Gone: gone})
 	}
 }
 

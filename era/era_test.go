@@ -1,7 +1,6 @@
 package era_test
 
 import (
-	"reflect"
 	"slices"
 	"testing"
 
@@ -21,26 +20,13 @@ func two() (api.Layout, api.Mem) {
 	return l, m
 }
 
-func check(t *testing.T, did []string, want string, out, wantOut api.Out) {
-	t.Helper()
-	if lab.Did(did) != lab.Lines(want) {
-		t.Errorf("did:\n%s\nwant:\n%s", lab.Did(did), lab.Lines(want))
-	}
-	if len(out.Gone) == 0 {
-		out.Gone = nil
-	}
-	if !reflect.DeepEqual(out, wantOut) {
-		t.Error(out, wantOut)
-	}
-}
-
 // P16.1
 func TestGuard(t *testing.T) {
 	l, m := two()
 	gone := [][2]int{{1, 2}}
 	op := api.Op{Kind: era.Guard, A: 2, B: layout.Cell(l, 0)}
 	did, on, out := lab.Alone(l, m, era.Next, 1, gone, op, nil)
-	check(t, did, "load cell0\n load era\n store resv1.2 7\n load cell0\n load era", out, api.Out{Val: 99, Is: true, Point: 3, Gone: gone})
+	lab.Check(t, did, "load cell0\n load era\n store resv1.2 7\n load cell0\n load era", out, api.Out{Val: 99, Is: true, Point: 3, Gone: gone})
 	if on.Cells[layout.Resv(l, 1, 2)] != 7 {
 		t.Error("no reservation")
 	}
@@ -50,10 +36,10 @@ func TestGuard(t *testing.T) {
 			m.Cells[layout.Cell(l, 0)]++
 		}
 	})
-	check(t, did, "load cell0\n load era\n store resv0.2 7\n load cell0\n load era\n store resv0.2 8\n load cell0\n load era\n store resv0.2 9\n load cell0\n load era", out, api.Out{Val: 101, Is: true, Point: 9})
+	lab.Check(t, did, "load cell0\n load era\n store resv0.2 7\n load cell0\n load era\n store resv0.2 8\n load cell0\n load era\n store resv0.2 9\n load cell0\n load era", out, api.Out{Val: 101, Is: true, Point: 9})
 	m.Cells[l.Era] = 0
 	did, _, out = lab.Alone(l, m, era.Next, 0, nil, op, nil)
-	check(t, did, "load cell0\n load era", out, api.Out{Val: 99, Is: true, Point: 0})
+	lab.Check(t, did, "load cell0\n load era", out, api.Out{Val: 99, Is: true, Point: 0})
 }
 
 func TestWrong(t *testing.T) {
@@ -64,7 +50,7 @@ func TestWrong(t *testing.T) {
 		{Kind: era.Retire, A: 0}, {Kind: era.Retire, A: 7}, {Kind: era.Retire, A: -1}, {Kind: 0}, {Kind: 4},
 	} {
 		did, _, out := lab.Alone(l, m, era.Next, 0, gone, op, nil)
-		check(t, did, "", out, api.Out{Err: api.ErrArg, Point: -1, Gone: gone})
+		lab.Check(t, did, "", out, api.Out{Err: api.ErrArg, Point: -1, Gone: gone})
 	}
 	for _, b := range []int{0, l.Size - 1} {
 		if did, _, out := lab.Alone(l, m, era.Next, 0, gone, api.Op{Kind: era.Guard, B: b}, nil); len(did) == 0 || out.Err != api.OK {
@@ -78,16 +64,18 @@ func TestDrop(t *testing.T) {
 	l, m := two()
 	gone := [][2]int{{1, 2}}
 	did, _, out := lab.Alone(l, m, era.Next, 1, gone, api.Op{Kind: era.Drop, A: 9, B: -9}, nil)
-	check(t, did, "store resv1.0 0\n store resv1.1 0\n store resv1.2 0", out, api.Out{Is: true, Point: 2, Gone: gone})
+	lab.Check(t, did, "store resv1.0 0\n store resv1.1 0\n store resv1.2 0", out, api.Out{Is: true, Point: 2, Gone: gone})
 }
 
 // P16.3
 func TestRetire(t *testing.T) {
 	l, m := two()
 	did, _, out := lab.Alone(l, m, era.Next, 0, nil, api.Op{Kind: era.Retire, A: 3}, nil)
-	check(t, did, "load era\n add era 1", out, api.Out{Is: true, Point: 1, Gone: [][2]int{{3, 7}}})
+	lab.Check(t, did, "load era\n add era 1", out, api.Out{Is: true, Point: 1, Gone: [][2]int{{3, 7}}})
+	did, _, out = lab.Alone(l, m, era.Next, 0, nil, api.Op{Kind: era.Retire, A: l.Conf.Nodes}, nil)
+	lab.Check(t, did, "load era\n add era 1", out, api.Out{Is: true, Point: 1, Gone: [][2]int{{6, 7}}})
 	did, _, out = lab.Alone(l, m, era.Next, 0, [][2]int{{1, 2}, {2, 3}}, api.Op{Kind: era.Retire, A: 3}, nil)
-	check(t, did, "load era\n add era 1", out, api.Out{Is: true, Point: 1, Gone: [][2]int{{1, 2}, {2, 3}, {3, 7}}})
+	lab.Check(t, did, "load era\n add era 1", out, api.Out{Is: true, Point: 1, Gone: [][2]int{{1, 2}, {2, 3}, {3, 7}}})
 }
 
 func TestRetireLooks(t *testing.T) {
@@ -104,7 +92,7 @@ func TestRetireLooks(t *testing.T) {
 	}
 	all := give("1", "5", "5", "131073") + give("2", "1", "131073", "262146") + give("4", "2", "262146", "393220") + give("3", "4", "393220", "524291")
 	did, on, out := lab.Alone(l, m, era.Next, 0, gone, op, nil)
-	check(t, did, look+all, out, api.Out{Is: true, Point: 1})
+	lab.Check(t, did, look+all, out, api.Out{Is: true, Point: 1})
 	if !slices.Equal(arena.List(l, on), []int{3, 4, 2, 1, 5, 6}) {
 		t.Error(arena.List(l, on))
 	}
@@ -131,6 +119,10 @@ func TestRetireLooks(t *testing.T) {
 	m.Cells[layout.Node(l, 1, 6)] = 0
 	if _, _, out := lab.Alone(l, m, era.Next, 0, gone[:3], op, nil); len(out.Gone) != 0 {
 		t.Error("a reservation of 0 holds nothing", out.Gone)
+	}
+	m.Cells[layout.Resv(l, 1, 0)] = 1
+	if _, _, out := lab.Alone(l, m, era.Next, 0, gone[:3], op, nil); !slices.Equal(out.Gone, [][2]int{{1, 3}}) {
+		t.Error("a reservation of 1 holds what was born below", out.Gone)
 	}
 }
 

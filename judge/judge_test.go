@@ -170,6 +170,7 @@ func TestOnce(t *testing.T) {
 		}},
 		{true, func(s *api.State) { s.Over = false; without(end(2))(s) }}, {true, func(s *api.State) { s.Err = api.ErrFull; without(end(2))(s) }},
 		{true, func(s *api.State) { s.Over = false; without(end(2))(s); without(claim(2, true))(s) }}, {false, func(s *api.State) { s.Over = false; without(claim(2, true))(s) }},
+		{false, func(s *api.State) { s.Over = false; more(end(2))(s) }}, {false, func(s *api.State) { s.Over = false; more(end(1))(s) }},
 		{false, func(s *api.State) { s.Layout.Conf.Seats = 0 }},
 	} {
 		wrong := copied(s)
@@ -177,6 +178,28 @@ func TestOnce(t *testing.T) {
 		if judge.Once(wrong) != x.want || !x.want && judge.All(wrong) {
 			t.Error(i)
 		}
+	}
+}
+
+// P34.5: each of them is asked.
+func TestAll(t *testing.T) {
+	s := played(t, text, 2, sample.Picks(sample.Dice(3), 2, 40))
+	word := layout.Task(s.Layout, 2, 0)
+	twice := copied(s)
+	twice.Events = append(twice.Events, api.Event{Access: api.Access{Kind: api.AStore, Cell: word, New: 3}, Result: api.Result{Val: 3, Ok: true}})
+	if got := verdicts(twice); got != [5]bool{true, true, false, true, false} {
+		t.Error("a task that is done twice", got)
+	}
+	cell := layout.Node(s.Layout, s.Layout.Conf.Nodes, 0)
+	touched := copied(s)
+	touched.Events = append(touched.Events, api.Event{Access: api.Access{Kind: api.ALoad, Cell: cell}, Result: api.Result{Val: s.Mem.Cells[cell], Ok: true}})
+	if got := verdicts(touched); got != [5]bool{true, true, true, false, false} {
+		t.Error("a free node that is touched", got)
+	}
+	told := copied(s)
+	told.Calls[0].Val++
+	if got := verdicts(told); got != [5]bool{true, false, true, true, false} {
+		t.Error("a call that is told something else", got)
 	}
 }
 

@@ -93,6 +93,28 @@ func Alone(l api.Layout, m api.Mem, next Next, me int, gone [][2]int, op api.Op,
 	return append(did, "no end"), m, api.Out{}
 }
 
+// Report is what a test is told by.
+type Report interface {
+	Helper()
+	Errorf(format string, args ...any)
+}
+
+// Check holds accesses, and what an operation told, against what they should be.
+func Check(t Report, did []string, want string, out, wantOut api.Out) {
+	t.Helper()
+	if Did(did) != Lines(want) {
+		t.Errorf("did:\n%s\nwant:\n%s", Did(did), Lines(want))
+	}
+	if !SameOut(out, wantOut) {
+		t.Errorf("told %v, want %v", out, wantOut)
+	}
+}
+
+// SameOut tells whether two operations told the same.
+func SameOut(a, b api.Out) bool {
+	return a.Val == b.Val && a.Is == b.Is && a.Err == b.Err && a.Point == b.Point && slices.Equal(a.Gone, b.Gone)
+}
+
 // Did is accesses as lines, to be held against others.
 func Did(l []string) string { return strings.Join(l, "\n") }
 

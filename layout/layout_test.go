@@ -192,6 +192,7 @@ func TestFor(t *testing.T) {
 		want  api.Conf
 	}{
 		{api.Code{}, api.Elided{}, 1, api.Conf{Seats: 1, Nodes: 12, Buckets: 1, Slots: 1, Tasks: 1}},
+		{api.Code{}, api.Elided{Uses: uses(api.KMap, api.OPut, 9)}, 1, api.Conf{Seats: 1, Nodes: 21, Buckets: 1, Slots: 1, Tasks: 1}},
 		{api.Code{Stacks: 1}, api.Elided{Tasks: 64, Uses: uses(api.KStack, api.OPush, 9)}, 8, api.Conf{Seats: 8, Nodes: 77, Buckets: 1, Slots: 4, Tasks: 64, Stacks: 1}},
 		{code, api.Elided{Tasks: 3, Uses: join(uses(api.KMap, api.OPut, 5), uses(api.KMap, api.OGet, 50), uses(api.KMap, api.ODel, 50), uses(api.KStack, api.OPush, 2), uses(api.KStack, api.OPop, 9), uses(api.KChan, api.OSend, 3), uses(api.KChan, api.ORecv, 9), uses(api.KCell, 1, 9), uses(api.KCell, 0, 9))}, 3,
 			api.Conf{Seats: 3, Nodes: 4 + 4*2 + 3 + 10 + 24, Buckets: 4, Slots: 2, Tasks: 3, Cells: 2, Maps: 2, Stacks: 1, Chans: 3}},

@@ -38,6 +38,9 @@ func TestFits(t *testing.T) {
 			t.Error(i)
 		}
 	}
+	if twice := []api.Call{push(1, 0, 9), push(1, 0, 9)}; lin.Fits(empty(), twice, []int{0, 0}) || lin.Fits(empty(), twice, []int{1, 1}) || !lin.Fits(empty(), twice, []int{1, 0}) {
+		t.Error("a place that is told twice")
+	}
 	if !lin.Fits(empty(), nil, nil) {
 		t.Error("no calls")
 	}

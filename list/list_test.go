@@ -1,7 +1,6 @@
 package list_test
 
 import (
-	"reflect"
 	"slices"
 	"testing"
 
@@ -36,19 +35,6 @@ func ops(head int) (get, put, del func(a int) api.Op) {
 		return func(a int) api.Op { return api.Op{Kind: kind, Obj: head, A: a, B: 70 + a} }
 	}
 	return of(api.OGet), of(api.OPut), of(api.ODel)
-}
-
-func check(t *testing.T, did []string, want string, out, wantOut api.Out) {
-	t.Helper()
-	if lab.Did(did) != lab.Lines(want) {
-		t.Errorf("did:\n%s\nwant:\n%s", lab.Did(did), lab.Lines(want))
-	}
-	if len(out.Gone) == 0 {
-		out.Gone = nil
-	}
-	if !reflect.DeepEqual(out, wantOut) {
-		t.Error(out, wantOut)
-	}
 }
 
 // P19.1
@@ -115,11 +101,11 @@ func TestGet(t *testing.T) {
 	} {
 		did, _, out := lab.Alone(l, m, list.Next, 0, gone, get(x.a), nil)
 		x.want.Gone = gone
-		check(t, did, x.did, out, x.want)
+		lab.Check(t, did, x.did, out, x.want)
 	}
 	l, m, head = laid()
 	did, _, out := lab.Alone(l, m, list.Next, 0, nil, get(1), nil)
-	check(t, did, guardHead+"store resv0.0 0", out, api.Out{Point: 3})
+	lab.Check(t, did, guardHead+"store resv0.0 0", out, api.Out{Point: 3})
 }
 
 // P19.3
@@ -128,20 +114,20 @@ func TestPut(t *testing.T) {
 	_, put, _ := ops(head)
 	take := "load free\n load node2.7\n cas free 2 131075\n load era\n store node2.6 5\n"
 	did, on, out := lab.Alone(l, m, list.Next, 0, nil, put(3), nil)
-	check(t, did, guardHead+guardFirst+clear2, out, api.Out{Point: 8})
+	lab.Check(t, did, guardHead+guardFirst+clear2, out, api.Out{Point: 8})
 	did, on, out = lab.Alone(l, m, list.Next, 0, nil, put(2), nil)
-	check(t, did, guardHead+guardFirst+take+"store node2.1 2\n store node2.2 72\n store node2.0 1\n cas map0.0 1 2\n"+clear2, out, api.Out{Is: true, Point: 20})
+	lab.Check(t, did, guardHead+guardFirst+take+"store node2.1 2\n store node2.2 72\n store node2.0 1\n cas map0.0 1 2\n"+clear2, out, api.Out{Is: true, Point: 20})
 	if got := list.Row(l, on, head); !slices.Equal(got, [][2]int{{2, 72}, {3, 30}}) {
 		t.Error(got)
 	}
 	did, on, out = lab.Alone(l, m, list.Next, 0, nil, put(9), nil)
-	check(t, did, guardHead+guardFirst+take+"store node2.1 9\n store node2.2 79\n store node2.0 0\n cas node1.0 0 2\n"+clear2, out, api.Out{Is: true, Point: 20})
+	lab.Check(t, did, guardHead+guardFirst+take+"store node2.1 9\n store node2.2 79\n store node2.0 0\n cas node1.0 0 2\n"+clear2, out, api.Out{Is: true, Point: 20})
 	if got := list.Row(l, on, head); !slices.Equal(got, [][2]int{{3, 30}, {9, 79}}) {
 		t.Error(got)
 	}
 	m.Cells[l.Free] = 0
 	did, _, out = lab.Alone(l, m, list.Next, 0, nil, put(9), nil)
-	check(t, did, guardHead+guardFirst+"load free\n"+clear2, out, api.Out{Err: api.ErrFull, Point: 12})
+	lab.Check(t, did, guardHead+guardFirst+"load free\n"+clear2, out, api.Out{Err: api.ErrFull, Point: 12})
 }
 
 func TestPutPassed(t *testing.T) {
@@ -157,14 +143,14 @@ func TestPutPassed(t *testing.T) {
 		}
 	}
 	did, on, out := lab.Alone(l, m, list.Next, 0, nil, put(2), with(1))
-	check(t, did, guardHead+guardFirst+take+"store node2.1 2\n store node2.2 72\n store node2.0 1\n cas map0.0 1 2 no\n"+
+	lab.Check(t, did, guardHead+guardFirst+take+"store node2.1 2\n store node2.2 72\n store node2.0 1\n cas map0.0 1 2 no\n"+
 		againHead+"load node4.0\n load era\n load map0.0\n load node4.1\n"+"load node1.0\n load era\n store resv0.2 5\n load node1.0\n load era\n load node4.0\n load node1.1\n"+
 		"store node2.0 1\n cas node4.0 1 2\n"+clear3, out, api.Out{Is: true, Point: 35})
 	if got := list.Row(l, on, head); !slices.Equal(got, [][2]int{{1, 0}, {2, 72}, {3, 30}}) {
 		t.Error(got)
 	}
 	did, on, out = lab.Alone(l, m, list.Next, 0, nil, put(2), with(2))
-	check(t, did, guardHead+guardFirst+take+"store node2.1 2\n store node2.2 72\n store node2.0 1\n cas map0.0 1 2 no\n"+
+	lab.Check(t, did, guardHead+guardFirst+take+"store node2.1 2\n store node2.2 72\n store node2.0 1\n cas map0.0 1 2 no\n"+
 		againHead+"load node4.0\n load era\n load map0.0\n load node4.1\n"+
 		"load free\n store node2.7 3\n cas free 131075 262146\n"+clear2, out, api.Out{Point: 23})
 	if !slices.Contains(arena.List(l, on), 2) {
@@ -178,16 +164,16 @@ func TestDel(t *testing.T) {
 	_, _, del := ops(head)
 	gone := [][2]int{{4, 4}}
 	did, on, out := lab.Alone(l, m, list.Next, 0, gone, del(3), nil)
-	check(t, did, guardHead+guardFirst+"cas node1.0 2 65538\n cas map0.0 1 2\n"+clear2+"load era\n add era 1", out, api.Out{Is: true, Point: 12, Gone: [][2]int{{4, 4}, {1, 5}}})
+	lab.Check(t, did, guardHead+guardFirst+"cas node1.0 2 65538\n cas map0.0 1 2\n"+clear2+"load era\n add era 1", out, api.Out{Is: true, Point: 12, Gone: [][2]int{{4, 4}, {1, 5}}})
 	if got := list.Row(l, on, head); !slices.Equal(got, [][2]int{{5, 50}}) {
 		t.Error(got)
 	}
 	did, _, out = lab.Alone(l, m, list.Next, 0, gone, del(4), nil)
-	check(t, did, guardHead+guardFirst+guardThird+clear3, out, api.Out{Point: 17, Gone: gone})
+	lab.Check(t, did, guardHead+guardFirst+guardThird+clear3, out, api.Out{Point: 17, Gone: gone})
 	did, _, out = lab.Alone(l, m, list.Next, 0, nil, del(6), nil)
-	check(t, did, guardHead+guardFirst+guardThird+clear3, out, api.Out{Point: 15})
+	lab.Check(t, did, guardHead+guardFirst+guardThird+clear3, out, api.Out{Point: 15})
 	did, _, out = lab.Alone(l, m, list.Next, 0, nil, del(5), nil)
-	check(t, did, guardHead+guardFirst+guardThird+"cas node2.0 0 65536\n cas node1.0 2 0\n"+clear3+"load era\n add era 1", out, api.Out{Is: true, Point: 19, Gone: [][2]int{{2, 5}}})
+	lab.Check(t, did, guardHead+guardFirst+guardThird+"cas node2.0 0 65536\n cas node1.0 2 0\n"+clear3+"load era\n add era 1", out, api.Out{Is: true, Point: 19, Gone: [][2]int{{2, 5}}})
 }
 
 func TestDelPassed(t *testing.T) {
@@ -199,7 +185,7 @@ func TestDelPassed(t *testing.T) {
 			m.Cells[layout.Node(l, 2, 0)], m.Cells[layout.Node(l, 4, 1)] = 4, 6
 		}
 	})
-	check(t, did, guardHead+guardFirst+guardThird+"cas node2.0 0 65536 no\n"+againHead+againFirst+againThird+"cas node2.0 4 65540\n cas node1.0 2 4\n"+clear3+"load era\n add era 1", out, api.Out{Is: true, Point: 30, Gone: [][2]int{{2, 5}}})
+	lab.Check(t, did, guardHead+guardFirst+guardThird+"cas node2.0 0 65536 no\n"+againHead+againFirst+againThird+"cas node2.0 4 65540\n cas node1.0 2 4\n"+clear3+"load era\n add era 1", out, api.Out{Is: true, Point: 30, Gone: [][2]int{{2, 5}}})
 	// The unlinking fails: it is found, and unlinked there.
 	did, on, out := lab.Alone(l, m, list.Next, 0, nil, del(5), func(k int, m api.Mem) {
 		if k == 20 {
@@ -207,7 +193,7 @@ func TestDelPassed(t *testing.T) {
 			m.Cells[layout.Node(l, 4, 0)], m.Cells[layout.Node(l, 4, 1)] = 2, 4
 		}
 	})
-	check(t, did, guardHead+guardFirst+guardThird+"cas node2.0 0 65536\n cas node1.0 2 0 no\n"+
+	lab.Check(t, did, guardHead+guardFirst+guardThird+"cas node2.0 0 65536\n cas node1.0 2 0 no\n"+
 		againHead+againFirst+"load node4.0\n load era\n load node1.0\n load node4.1\n"+
 		"load node2.0\n load era\n load node4.0\n load node2.1\n cas node4.0 2 0\n load era\n add era 1\n"+clear3, out, api.Out{Is: true, Point: 19, Gone: [][2]int{{2, 5}}})
 	if got := list.Row(l, on, head); !slices.Equal(got, [][2]int{{3, 30}, {4, 0}}) {
@@ -219,7 +205,7 @@ func TestDelPassed(t *testing.T) {
 			m.Cells[layout.Node(l, 1, 0)] = 0
 		}
 	})
-	check(t, did, guardHead+guardFirst+guardThird+"cas node2.0 0 65536\n cas node1.0 2 0 no\n"+againHead+againFirst+clear3, out, api.Out{Is: true, Point: 19})
+	lab.Check(t, did, guardHead+guardFirst+guardThird+"cas node2.0 0 65536\n cas node1.0 2 0 no\n"+againHead+againFirst+clear3, out, api.Out{Is: true, Point: 19})
 }
 
 // Nodes that are out are unlinked by who comes by.
@@ -229,7 +215,7 @@ func TestFindUnlinks(t *testing.T) {
 	m.Cells[layout.Node(l, 1, 0)] |= marked
 	m.Cells[layout.Node(l, 2, 0)] |= marked
 	did, on, out := lab.Alone(l, m, list.Next, 0, nil, get(8), nil)
-	check(t, did, guardHead+guardFirst+"cas map0.0 1 2\n load era\n add era 1\n"+
+	lab.Check(t, did, guardHead+guardFirst+"cas map0.0 1 2\n load era\n add era 1\n"+
 		"load node2.0\n load era\n store resv0.0 6\n load node2.0\n load era\n load map0.0\n load node2.1\n cas map0.0 2 3\n load era\n add era 1\n"+
 		"load node3.0\n load era\n store resv0.1 7\n load node3.0\n load era\n load map0.0\n load node3.1\n load node3.2\n"+clear2, out, api.Out{Val: 80, Is: true, Point: 28, Gone: [][2]int{{1, 5}, {2, 6}}})
 	if got := list.Nodes(l, on, head); !slices.Equal(got, []int{3}) {
@@ -238,21 +224,21 @@ func TestFindUnlinks(t *testing.T) {
 	// Nothing is behind: the point of not finding it is the unlinking.
 	m.Cells[layout.Node(l, 2, 0)], m.Cells[layout.Node(l, 1, 0)] = marked, 2
 	did, _, out = lab.Alone(l, m, list.Next, 0, nil, get(8), nil)
-	check(t, did, guardHead+guardFirst+guardThird+"cas node1.0 2 0\n load era\n add era 1\n"+clear3, out, api.Out{Point: 19, Gone: [][2]int{{2, 5}}})
+	lab.Check(t, did, guardHead+guardFirst+guardThird+"cas node1.0 2 0\n load era\n add era 1\n"+clear3, out, api.Out{Point: 19, Gone: [][2]int{{2, 5}}})
 	// The unlinking fails: anew from the head, with the slots as in the beginning.
 	did, _, out = lab.Alone(l, m, list.Next, 0, nil, get(8), func(k int, m api.Mem) {
 		if k == 19 {
 			m.Cells[layout.Node(l, 1, 0)] = 0
 		}
 	})
-	check(t, did, guardHead+guardFirst+guardThird+"cas node1.0 2 0 no\n"+againHead+againFirst+clear3, out, api.Out{Point: 22})
+	lab.Check(t, did, guardHead+guardFirst+guardThird+"cas node1.0 2 0 no\n"+againHead+againFirst+clear3, out, api.Out{Point: 22})
 	// The look fails.
 	did, _, out = lab.Alone(l, m, list.Next, 0, nil, get(3), func(k int, m api.Mem) {
 		if k == 10 {
 			m.Cells[head] = 0
 		}
 	})
-	check(t, did, guardHead+"load node1.0\n load era\n store resv0.1 5\n load node1.0\n load era\n load map0.0\n"+againHead+clear2, out, api.Out{Point: 11})
+	lab.Check(t, did, guardHead+"load node1.0\n load era\n store resv0.1 5\n load node1.0\n load era\n load map0.0\n"+againHead+clear2, out, api.Out{Point: 11})
 }
 
 // P19.5
@@ -261,7 +247,22 @@ func TestWrong(t *testing.T) {
 	gone := [][2]int{{1, 2}}
 	for _, op := range []api.Op{{Kind: 0, Obj: head}, {Kind: api.OPush, Obj: head}, {Kind: api.OGet, Obj: -1}, {Kind: api.OPut, Obj: l.Size}} {
 		did, _, out := lab.Alone(l, m, list.Next, 0, gone, op, nil)
-		check(t, did, "", out, api.Out{Err: api.ErrArg, Point: -1, Gone: gone})
+		lab.Check(t, did, "", out, api.Out{Err: api.ErrArg, Point: -1, Gone: gone})
+	}
+}
+
+// A head may be any cell of the layout.
+func TestFirstCell(t *testing.T) {
+	l, m, _ := laid(3)
+	m.Cells[0] = 1
+	if _, _, out := lab.Alone(l, m, list.Next, 0, nil, api.Op{Kind: api.OGet, Obj: 0, A: 3}, nil); !out.Is || out.Val != 30 {
+		t.Error(out)
+	}
+	if got := list.Row(l, m, 0); !slices.Equal(got, [][2]int{{3, 30}}) {
+		t.Error(got)
+	}
+	if _, _, out := lab.Alone(l, m, list.Next, 0, nil, api.Op{Kind: api.OGet, Obj: l.Size - 1, A: 3}, nil); out.Is || out.Err != api.OK {
+		t.Error(out)
 	}
 }
 

@@ -97,6 +97,9 @@ func TestBehindWrong(t *testing.T) {
 // P11.3
 func TestBeforeAndRow(t *testing.T) {
 	o := of(5, 3, 9)
+	if first := of(0, 1); !om.Before(first, 0, 1) || om.Before(first, 1, 0) {
+		t.Error("the first one")
+	}
 	if !om.Before(o, 1, 0) || om.Before(o, 0, 1) || om.Before(o, 0, 0) || om.Before(o, 0, 3) || om.Before(o, -1, 0) || om.Before(o, 3, 0) || om.Before(of(1, 2, 2), 0, 1) {
 		t.Error("Before")
 	}

@@ -35,6 +35,7 @@ func TestSteps(t *testing.T) {
 	}{
 		{call(0, api.OPush, 2, 9, 2), 2}, {call(0, api.OPush, 2, 9, 9), 9}, {call(0, api.OPush, 2, 9, 5), 5}, {call(0, api.OPush, 2, 9, 1), -1}, {call(0, api.OPush, 2, 9, 10), -1}, {call(0, api.OPush, 2, 9, -1), -1}, {call(0, api.OPush, 0, 99, 50), 50},
 		{call(0, api.OPush, 0, 10, -5), 8}, {call(0, api.OPush, 0, 8, -5), 8}, {call(0, api.OPush, 0, 7, -5), -1}, {call(1, api.OPush, 0, 10, -5), 6}, {call(2, api.OPush, 0, 10, -5), 6}, {call(0, api.OPush, 0, 99, -5), 8},
+		{call(0, api.OPush, 0, 9, 0), 0}, {call(2, api.OPush, 0, 99, -11), -1}, {call(1, api.OPush, 0, 99, -2), -1},
 		{call(0, api.OPush, 0, 10, -10), 9}, {call(0, api.OPush, 0, 10, -11), -1}, {call(0, api.OPush, 0, 10, -12), -1}, {call(0, api.OPush, 0, 10, -13), -1}, {call(0, api.OPush, 0, 99, math.MinInt), -1}, {call(0, api.OPush, 0, 10, -2), -1},
 	} {
 		calls := []api.Call{x.c}
@@ -44,6 +45,10 @@ func TestSteps(t *testing.T) {
 		if len(got) != 1 || got[0] != want || calls[0] != x.c {
 			t.Error(i, got)
 		}
+	}
+	first := []api.Event{cas(0, 4, true), cas(1, 4, true)}
+	if got := point.Steps(first, []api.Call{call(0, api.OPush, 0, 1, -2)}); got[0].Point != 1 {
+		t.Error("an offer at step 0", got)
 	}
 	if len(point.Steps(nil, nil)) != 0 {
 		t.Error("no calls")

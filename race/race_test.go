@@ -6,25 +6,13 @@ import (
 	"testing"
 
 	"underwood/api"
-	"underwood/compile"
 	"underwood/elide"
-	"underwood/parse"
 	"underwood/race"
+	"underwood/sample"
 	"underwood/spec"
 )
 
-func run(t *testing.T, text string) api.Elided {
-	t.Helper()
-	p, err := parse.Of(text)
-	if err != api.OK {
-		t.Fatalf("%q: %v", text, err)
-	}
-	c, err := compile.Of(p)
-	if err != api.OK {
-		t.Fatalf("%q: %v", text, err)
-	}
-	return elide.Run(c)
-}
+func run(_ *testing.T, text string) api.Elided { return elide.Run(sample.Code(text)) }
 
 // P13.1
 func TestConflict(t *testing.T) {

@@ -7,6 +7,7 @@ import (
 
 	"underwood/api"
 	"underwood/elide"
+	"underwood/elim"
 	"underwood/lab"
 	"underwood/layout"
 	"underwood/mem"
@@ -18,6 +19,7 @@ import (
 	"underwood/seat"
 	"underwood/spec"
 	"underwood/vm"
+	"underwood/word"
 )
 
 const seven = "func main() { return 7; }"
@@ -163,6 +165,30 @@ func TestStep(t *testing.T) {
 	}
 }
 
+// What is handed in isn't written into, though there be room behind it.
+func TestRoom(t *testing.T) {
+	s := start(t, "stack s; func main() { s.push(1); s.push(2); }", 2)
+	for range 9 {
+		s = run.Step(s, 0)
+	}
+	events, calls := make([]api.Event, len(s.Events), 50), make([]api.Call, len(s.Calls), 50)
+	copy(events, s.Events)
+	copy(calls, s.Calls)
+	log, steps := make([]api.Result, 0, 50), make([]int, 0, 50)
+	s.Events, s.Calls = events, calls
+	s.Seats[0].Log, s.Seats[0].Steps = log, steps
+	for range 9 {
+		s = run.Step(s, 0)
+	}
+	s = run.Die(s, 1)
+	if len(s.Calls) != 2 || len(s.Events) != 19 {
+		t.Error(s.Calls)
+	}
+	if events[:50][9] != (api.Event{}) || calls[:50][1] != (api.Call{}) || log[:50][0] != (api.Result{}) || steps[:50][0] != 0 {
+		t.Error("written into")
+	}
+}
+
 // deep is a copy that shares nothing that steps turn.
 func deep(s api.State) api.State {
 	s.Mem.Cells = slices.Clone(s.Mem.Cells)
@@ -260,6 +286,12 @@ func TestPlay(t *testing.T) {
 			t.Error(most, err)
 		}
 	}
+	if s, err := run.Play(c, conf, nil, api.MaxStep); err != api.OK || s.Err != api.OK || s.Value != 1 {
+		t.Error("as many steps as there may be", err, s.Err)
+	}
+	if s, _ := run.Play(c, conf, []api.Pick{{Kind: api.PStep, A: 2}}, 3); len(s.Events) != 3 || s.Events[0].Worker != 2 || s.Events[1].Worker != 0 || s.Events[2].Worker != 1 {
+		t.Error("turns behind the last pick", s.Events)
+	}
 	if s, err := run.Play(c, api.Conf{}, nil, 5); err != api.ErrArg || !reflect.DeepEqual(s, api.State{}) {
 		t.Error(err)
 	}
@@ -333,11 +365,70 @@ func TestScripts(t *testing.T) {
 			if err != api.OK || !s.Over || s.Err != api.OK {
 				t.Fatal(text, seed, err, s.Err)
 			}
+			if n := objectUses(c); i < len(sample.Free()) && len(s.Calls) != n {
+				t.Fatal(text, seed, "calls", len(s.Calls), n)
+			}
 			if i < len(sample.Free()) && !run.Same(run.Shape(s), want) {
 				t.Fatal(text, seed, run.Shape(s), want)
 			}
 			whole(t, s)
 		}
+	}
+}
+
+// objectUses is how many operations of objects a code's elision has.
+func objectUses(c api.Code) int {
+	n := 0
+	for _, u := range elide.Run(c).Uses {
+		if u.Thing != api.KCell {
+			n++
+		}
+	}
+	return n
+}
+
+// P31.2: an operation that ends the run is called, too.
+func TestFull(t *testing.T) {
+	c := sample.Code("stack s; func main() { s.push(1); }")
+	conf := sample.Conf(c, 1)
+	conf.Nodes = 0
+	s, err := run.Play(c, conf, nil, 100)
+	want := []api.Call{{Op: api.Op{Kind: api.OPush, A: 1}}}
+	if err != api.OK || !s.Over || s.Err != api.ErrFull || !slices.Equal(s.Calls, want) || !slices.Equal(texts(s, 0), []string{"load free"}) {
+		t.Error(s.Err, s.Calls)
+	}
+}
+
+// P31.2: a push that is met tells the event of its offer.
+func TestMet(t *testing.T) {
+	c := sample.Code("stack s; func f(a) { i = 0; while i < 4 { s.push(a); s.pop(); i = i + 1; } } func main() { par f(0, 6); }")
+	met := 0
+	for seed := range 60 {
+		dice := sample.Dice(seed)
+		var l []api.Pick
+		for range 3000 {
+			l = append(l, api.Pick{Kind: api.PStep, A: dice(4)})
+		}
+		s, err := run.Play(c, sample.Conf(c, 4), l, 100000)
+		if err != api.OK || s.Err != api.OK {
+			t.Fatal(seed, err, s.Err)
+		}
+		whole(t, s)
+		for _, x := range s.Calls {
+			if x.Point >= -1 {
+				continue
+			}
+			met++
+			e := -2 - x.Point
+			offer := s.Events[e]
+			value, kind, _ := word.Offered(offer.Access.New)
+			if e < x.First || e > x.Last || offer.Seat != x.Who || x.Op.Kind != api.OPush || offer.Access.Kind != api.ACas || !offer.Result.Ok || value != x.Op.A || kind != 1 || offer.Access.Cell != elim.Slot(s.Layout, x.Who, 0) {
+				t.Fatal(seed, x, offer)
+			}
+		}
+	}
+	if met == 0 {
+		t.Error("nobody met")
 	}
 }
 

@@ -4,6 +4,7 @@ import (
 	"slices"
 
 	"underwood/api"
+	"underwood/chain"
 	"underwood/elide"
 	"underwood/layout"
 	"underwood/obj"
@@ -17,12 +18,6 @@ func Shape(s api.State) api.Shape {
 	if s.Err != api.OK {
 		return api.Shape{Err: s.Err}
 	}
-	has := func(cell int) int {
-		if cell < 0 || cell >= len(s.Mem.Cells) {
-			return 0
-		}
-		return s.Mem.Cells[cell]
-	}
 	contents := func(kind, many int) []api.Content {
 		var l []api.Content
 		for i := range many {
@@ -35,10 +30,10 @@ func Shape(s api.State) api.Shape {
 		Maps:  contents(api.KMap, s.Layout.Conf.Maps),
 		Stack: contents(api.KStack, s.Layout.Conf.Stacks),
 		Chans: contents(api.KChan, s.Layout.Conf.Chans),
-		Tasks: has(s.Layout.Count),
+		Tasks: chain.Has(s.Mem, s.Layout.Count),
 	}
 	for i := range s.Layout.Conf.Cells {
-		shape.Cells = append(shape.Cells, has(layout.Cell(s.Layout, i)))
+		shape.Cells = append(shape.Cells, chain.Has(s.Mem, layout.Cell(s.Layout, i)))
 	}
 	for _, f := range s.Frames {
 		if f.Fail {

@@ -38,7 +38,7 @@ func TestProgOfOthers(t *testing.T) {
 		for _, op := range []api.Op{{Kind: kind, A: 1, B: 7}, {Kind: kind, Obj: 1, A: 5}, {Kind: kind, Obj: 9, A: 9}, {Kind: kind, Obj: -1, A: -1}} {
 			did, _, out := lab.Alone(l, m, seat.Prog, 1, gone, op, nil)
 			did2, _, out2 := lab.Alone(l, m, of, 1, gone, op, nil)
-			if lab.Did(did) != lab.Did(did2) || !reflect.DeepEqual(out, out2) {
+			if lab.Did(did) != lab.Did(did2) || !lab.SameOut(out, out2) {
 				t.Error(op, did, out)
 			}
 		}
@@ -75,7 +75,7 @@ func TestProg(t *testing.T) {
 	} {
 		did, _, out := lab.Alone(l, x.m, seat.Prog, 0, gone, x.op, nil)
 		x.want.Gone = gone
-		if lab.Did(did) != lab.Lines(x.did) || !reflect.DeepEqual(out, x.want) {
+		if lab.Did(did) != lab.Lines(x.did) || !lab.SameOut(out, x.want) {
 			t.Errorf("%d: %v\n%s", i, out, lab.Did(did))
 		}
 	}
@@ -301,6 +301,10 @@ func TestTurnOnward(t *testing.T) {
 		t.Error("a frame that is there already", got)
 	}
 
+	if got := turned(c, spawns, []api.Frame{frame(1), parent}, api.Out{Val: api.MaxTask, Is: true}); got.Over || len(got.Frames) != api.MaxTask {
+		t.Error("the last task that there may be", got.Over, len(got.Frames))
+	}
+
 	syncs := begun(api.HSync, 0, 2, api.Op{Kind: api.OSync, A: 2})
 	syncs.Ask = api.Ask{Kind: api.QSync}
 	frames := []api.Frame{frame(1), parent}
@@ -329,6 +333,23 @@ func TestTurnOnward(t *testing.T) {
 	}
 	if got := turned(c, ends, frames, api.Out{Is: true, Gone: gone}); !got.Over || got.Err != api.OK || got.Value != 44 || !reflect.DeepEqual(got.Seat, ends) || got.Sits != 1 {
 		t.Error("the main one's", got)
+	}
+}
+
+// The main task's frame goes on, too; and what is handed in isn't written into, though there be room behind it.
+func TestTurnOfMain(t *testing.T) {
+	args := []int{7, 9, 9}
+	main := frame(1)
+	main.Kids = []api.Kid{{Task: 2, Dst: 0}, {Task: 3, Dst: 1}, {Task: 4, Dst: -1}}
+	s := begun(api.HSync, 2, 1, api.Op{Kind: api.OFetch, A: 3})
+	s.Ask = api.Ask{Kind: api.QSync, Args: args[:1]}
+	got := turned(code(), s, []api.Frame{main}, api.Out{Val: 8, Is: true})
+	if got.Over || got.Seat.Op != (api.Op{Kind: api.OFetch, A: 4}) || got.Seat.Ask.Args[1] != 8 || args[1] != 9 {
+		t.Error(got, args)
+	}
+	got = turned(code(), got.Seat, got.Frames, api.Out{Val: 6, Is: true})
+	if got.Over || got.Frames[0].Local[0] != 7 || got.Frames[0].Local[1] != 8 || got.Seat.Op != (api.Op{Kind: api.OEnd, A: 1, B: 9}) {
+		t.Error(got)
 	}
 }
 

@@ -1,7 +1,6 @@
 package segment_test
 
 import (
-	"reflect"
 	"slices"
 	"strconv"
 	"testing"
@@ -24,19 +23,6 @@ func laid(nodes int) (api.Layout, api.Mem) {
 
 func send(c, a int) api.Op { return api.Op{Kind: api.OSend, Obj: c, A: a, B: 4} }
 func recv(c int) api.Op    { return api.Op{Kind: api.ORecv, Obj: c, A: 3, B: 4} }
-
-func check(t *testing.T, did []string, want string, out, wantOut api.Out) {
-	t.Helper()
-	if lab.Did(did) != lab.Lines(want) {
-		t.Errorf("did:\n%s\nwant:\n%s", lab.Did(did), lab.Lines(want))
-	}
-	if len(out.Gone) == 0 {
-		out.Gone = nil
-	}
-	if !reflect.DeepEqual(out, wantOut) {
-		t.Error(out, wantOut)
-	}
-}
 
 func ref(idx, cnt int) int     { return word.Pack(api.Ref{Idx: idx, Cnt: cnt}) }
 func text(idx, cnt int) string { return strconv.Itoa(ref(idx, cnt)) }
@@ -79,8 +65,8 @@ func TestRow(t *testing.T) {
 		t.Error("no such node")
 	}
 	cut := api.Mem{Cells: m.Cells[:layout.Node(l, 4, 5)]}
-	if !slices.Equal(segment.Nodes(l, cut, 1), []int{4, 2, 6}) && !slices.Equal(segment.Row(l, cut, 1), []int{28, 1, 38, 39}) {
-		t.Error("cells that are not there", segment.Row(l, cut, 1))
+	if !slices.Equal(segment.Nodes(l, cut, 1), []int{4, 2, 6}) || !slices.Equal(segment.Row(l, cut, 1), []int{28, 1, 38, 39}) {
+		t.Error("cells that are not there", segment.Nodes(l, cut, 1), segment.Row(l, cut, 1))
 	}
 	for _, c := range []int{-1, 2} {
 		if len(segment.Nodes(l, m, c)) != 0 || len(segment.Row(l, m, c)) != 0 {
@@ -103,20 +89,20 @@ func TestAlone(t *testing.T) {
 	l, m := laid(4)
 	gone := [][2]int{{4, 1}}
 	did, _, out := lab.Alone(l, m, segment.Next, 0, gone, recv(0), nil)
-	check(t, did, guardHead+"load node1.1\n"+clear1, out, api.Out{Point: 5, Gone: gone})
+	lab.Check(t, did, guardHead+"load node1.1\n"+clear1, out, api.Out{Point: 5, Gone: gone})
 	did, m, out = lab.Alone(l, m, segment.Next, 0, gone, send(0, 5), nil)
-	check(t, did, guardTail+"load node1.1\n cas node1.1 0 7\n"+clear1, out, api.Out{Is: true, Point: 6, Gone: gone})
+	lab.Check(t, did, guardTail+"load node1.1\n cas node1.1 0 7\n"+clear1, out, api.Out{Is: true, Point: 6, Gone: gone})
 	did, m, out = lab.Alone(l, m, segment.Next, 0, nil, send(0, 0), nil)
-	check(t, did, guardTail+"load node1.1\n load node1.2\n cas node1.2 0 2\n"+clear1, out, api.Out{Is: true, Point: 7})
+	lab.Check(t, did, guardTail+"load node1.1\n load node1.2\n cas node1.2 0 2\n"+clear1, out, api.Out{Is: true, Point: 7})
 	if !slices.Equal(segment.Row(l, m, 0), []int{5, 0}) {
 		t.Error(segment.Row(l, m, 0))
 	}
 	did, m, out = lab.Alone(l, m, segment.Next, 0, nil, recv(0), nil)
-	check(t, did, guardHead+"load node1.1\n cas node1.1 7 1\n"+clear1, out, api.Out{Val: 5, Is: true, Point: 6})
+	lab.Check(t, did, guardHead+"load node1.1\n cas node1.1 7 1\n"+clear1, out, api.Out{Val: 5, Is: true, Point: 6})
 	did, m, out = lab.Alone(l, m, segment.Next, 0, nil, recv(0), nil)
-	check(t, did, guardHead+"load node1.1\n load node1.2\n cas node1.2 2 1\n"+clear1, out, api.Out{Val: 0, Is: true, Point: 7})
+	lab.Check(t, did, guardHead+"load node1.1\n load node1.2\n cas node1.2 2 1\n"+clear1, out, api.Out{Val: 0, Is: true, Point: 7})
 	did, _, out = lab.Alone(l, m, segment.Next, 0, nil, recv(0), nil)
-	check(t, did, guardHead+"load node1.1\n load node1.2\n load node1.3\n"+clear1, out, api.Out{Point: 7})
+	lab.Check(t, did, guardHead+"load node1.1\n load node1.2\n load node1.3\n"+clear1, out, api.Out{Point: 7})
 }
 
 // full is a channel whose first segment has been filled with 0, 1, ..
@@ -136,24 +122,24 @@ func full(t *testing.T) (api.Layout, api.Mem) {
 func TestSendMore(t *testing.T) {
 	l, m := full(t)
 	did, on, out := lab.Alone(l, m, segment.Next, 0, nil, send(0, 7), nil)
-	check(t, did, guardTail+allOf1+"load node1.0\n"+take3+begin3+"cas node1.0 0 3\n cas chan0.1 1 131075\n"+clear1, out, api.Out{Is: true, Point: 22})
+	lab.Check(t, did, guardTail+allOf1+"load node1.0\n"+take3+begin3+"cas node1.0 0 3\n cas chan0.1 1 131075\n"+clear1, out, api.Out{Is: true, Point: 22})
 	if !slices.Equal(segment.Row(l, on, 0), []int{0, 1, 2, 3, 4, 7}) {
 		t.Error(segment.Row(l, on, 0))
 	}
 	// The tail stands ahead of the last one.
 	on.Cells[layout.Tail(l, 0)] = 1
 	did, _, out = lab.Alone(l, on, segment.Next, 0, nil, send(0, 8), nil)
-	check(t, did, guardTail+allOf1+"load node1.0\n cas chan0.1 1 131075\n load chan0.1\n load era\n load node3.1\n load node3.2\n cas node3.2 0 10\n"+clear1, out, api.Out{Is: true, Point: 16})
+	lab.Check(t, did, guardTail+allOf1+"load node1.0\n cas chan0.1 1 131075\n load chan0.1\n load era\n load node3.1\n load node3.2\n cas node3.2 0 10\n"+clear1, out, api.Out{Is: true, Point: 16})
 	on.Cells[layout.Tail(l, 0)] = 1
 	did, _, out = lab.Alone(l, on, segment.Next, 0, nil, send(0, 8), func(k int, m api.Mem) {
 		if k == 11 {
 			m.Cells[layout.Tail(l, 0)] = ref(3, 9)
 		}
 	})
-	check(t, did, guardTail+allOf1+"load node1.0\n cas chan0.1 1 131075 no\n load chan0.1\n load era\n load node3.1\n load node3.2\n cas node3.2 0 10\n"+clear1, out, api.Out{Is: true, Point: 16})
+	lab.Check(t, did, guardTail+allOf1+"load node1.0\n cas chan0.1 1 131075 no\n load chan0.1\n load era\n load node3.1\n load node3.2\n cas node3.2 0 10\n"+clear1, out, api.Out{Is: true, Point: 16})
 	m.Cells[l.Free] = 0
 	did, _, out = lab.Alone(l, m, segment.Next, 0, nil, send(0, 7), nil)
-	check(t, did, guardTail+allOf1+"load node1.0\n load free\n"+clear1, out, api.Out{Err: api.ErrFull, Point: 11})
+	lab.Check(t, did, guardTail+allOf1+"load node1.0\n load free\n"+clear1, out, api.Out{Err: api.ErrFull, Point: 11})
 }
 
 func TestSendPassed(t *testing.T) {
@@ -163,7 +149,7 @@ func TestSendPassed(t *testing.T) {
 			m.Cells[layout.Node(l, 1, 1)] = 50
 		}
 	})
-	check(t, did, guardTail+"load node1.1\n cas node1.1 0 9 no\n load node1.2\n cas node1.2 0 9\n"+clear1, out, api.Out{Is: true, Point: 8})
+	lab.Check(t, did, guardTail+"load node1.1\n cas node1.1 0 9 no\n load node1.2\n cas node1.2 0 9\n"+clear1, out, api.Out{Is: true, Point: 8})
 	// Somebody else puts the node 4 behind: the one that was taken is given back.
 	l, m = full(t)
 	did, on, out := lab.Alone(l, m, segment.Next, 0, nil, send(0, 7), func(k int, m api.Mem) {
@@ -171,7 +157,7 @@ func TestSendPassed(t *testing.T) {
 			m.Cells[layout.Node(l, 1, 0)], m.Cells[layout.Node(l, 4, 1)] = 4, 50
 		}
 	})
-	check(t, did, guardTail+allOf1+"load node1.0\n"+take3+begin3+"cas node1.0 0 3 no\n load chan0.1\n load era\n"+allOf1+"load node1.0\n cas chan0.1 1 131076\n"+
+	lab.Check(t, did, guardTail+allOf1+"load node1.0\n"+take3+begin3+"cas node1.0 0 3 no\n load chan0.1\n load era\n"+allOf1+"load node1.0\n cas chan0.1 1 131076\n"+
 		"load chan0.1\n load era\n load node4.1\n load node4.2\n cas node4.2 0 9\n load free\n store node3.7 4\n cas free 131076 262147\n"+clear1, out, api.Out{Is: true, Point: 36})
 	if !slices.Equal(arena.List(l, on)[:1], []int{3}) {
 		t.Error("the node is lost")
@@ -185,14 +171,14 @@ func TestSendPassed(t *testing.T) {
 			}
 		}
 	})
-	check(t, did[31:], "cas chan0.1 1 131076\n load chan0.1\n load era\n load node4.1\n load node4.2\n load node4.3\n load node4.4\n load node4.5\n load node4.0\n cas node4.0 0 3\n cas chan0.1 131076 262147\n"+clear1, out, api.Out{Is: true, Point: 40})
+	lab.Check(t, did[31:], "cas chan0.1 1 131076\n load chan0.1\n load era\n load node4.1\n load node4.2\n load node4.3\n load node4.4\n load node4.5\n load node4.0\n cas node4.0 0 3\n cas chan0.1 131076 262147\n"+clear1, out, api.Out{Is: true, Point: 40})
 	// The tail was led on by somebody else.
 	did, _, out = lab.Alone(l, m, segment.Next, 0, nil, send(0, 7), func(k int, m api.Mem) {
 		if k == 23 {
 			m.Cells[layout.Tail(l, 0)] = ref(3, 9)
 		}
 	})
-	check(t, did[22:], "cas node1.0 0 3\n cas chan0.1 1 131075 no\n"+clear1, out, api.Out{Is: true, Point: 22})
+	lab.Check(t, did[22:], "cas node1.0 0 3\n cas chan0.1 1 131075 no\n"+clear1, out, api.Out{Is: true, Point: 22})
 }
 
 // P23.3: from one segment into the next one.
@@ -202,23 +188,23 @@ func TestRecvMore(t *testing.T) {
 		_, m, _ = lab.Alone(l, m, segment.Next, 0, nil, recv(0), nil)
 	}
 	did, _, out := lab.Alone(l, m, segment.Next, 0, nil, recv(0), nil)
-	check(t, did, guardHead+allOf1+"load node1.0\n"+clear1, out, api.Out{Point: 10})
+	lab.Check(t, did, guardHead+allOf1+"load node1.0\n"+clear1, out, api.Out{Point: 10})
 	_, m, _ = lab.Alone(l, m, segment.Next, 0, nil, send(0, 7), nil)
 	gone := [][2]int{{4, 1}}
 	did, _, out = lab.Alone(l, m, segment.Next, 0, gone, recv(0), nil)
 	after := "load chan0.0\n load era\n store resv0.0 6\n load chan0.0\n load era\n load node3.1\n cas node3.1 9 1\n" + clear1
-	check(t, did, guardHead+allOf1+"load node1.0\n load chan0.1\n cas chan0.0 1 131075\n"+clear1+"load era\n add era 1\n"+after, out, api.Out{Val: 7, Is: true, Point: 22, Gone: [][2]int{{4, 1}, {1, 5}}})
+	lab.Check(t, did, guardHead+allOf1+"load node1.0\n load chan0.1\n cas chan0.0 1 131075\n"+clear1+"load era\n add era 1\n"+after, out, api.Out{Val: 7, Is: true, Point: 22, Gone: [][2]int{{4, 1}, {1, 5}}})
 	// The tail stands at the segment yet.
 	m.Cells[layout.Tail(l, 0)] = ref(1, 5)
 	did, _, _ = lab.Alone(l, m, segment.Next, 0, nil, recv(0), nil)
-	check(t, did[:16], guardHead+allOf1+"load node1.0\n load chan0.1\n cas chan0.1 "+text(1, 5)+" "+text(3, 6)+"\n cas chan0.0 1 131075\n"+clear1+"load era\n", out, out)
+	lab.Check(t, did[:16], guardHead+allOf1+"load node1.0\n load chan0.1\n cas chan0.1 "+text(1, 5)+" "+text(3, 6)+"\n cas chan0.0 1 131075\n"+clear1+"load era\n", out, out)
 	// The head was led on by somebody else.
 	did, _, out = lab.Alone(l, m, segment.Next, 0, nil, recv(0), func(k int, m api.Mem) {
 		if k == 12 {
 			m.Cells[layout.Head(l, 0)], m.Cells[layout.Tail(l, 0)] = ref(3, 9), ref(3, 9)
 		}
 	})
-	check(t, did[12:], "cas chan0.1 "+text(1, 5)+" "+text(3, 6)+" no\n cas chan0.0 1 131075 no\n load chan0.0\n load era\n load node3.1\n cas node3.1 9 1\n"+clear1, out, api.Out{Val: 7, Is: true, Point: 17})
+	lab.Check(t, did[12:], "cas chan0.1 "+text(1, 5)+" "+text(3, 6)+" no\n cas chan0.0 1 131075 no\n load chan0.0\n load era\n load node3.1\n cas node3.1 9 1\n"+clear1, out, api.Out{Val: 7, Is: true, Point: 17})
 }
 
 func TestRecvPassed(t *testing.T) {
@@ -228,7 +214,7 @@ func TestRecvPassed(t *testing.T) {
 			m.Cells[layout.Node(l, 1, 1)] = 1
 		}
 	})
-	check(t, did, guardHead+"load node1.1\n cas node1.1 2 1 no\n load node1.2\n cas node1.2 3 1\n"+clear1, out, api.Out{Val: 1, Is: true, Point: 8})
+	lab.Check(t, did, guardHead+"load node1.1\n cas node1.1 2 1 no\n load node1.2\n cas node1.2 3 1\n"+clear1, out, api.Out{Val: 1, Is: true, Point: 8})
 }
 
 // P23.4
@@ -237,7 +223,7 @@ func TestWrong(t *testing.T) {
 	gone := [][2]int{{1, 2}}
 	for _, op := range []api.Op{send(2, 1), send(-1, 1), recv(2), {Kind: 0}, {Kind: api.OPush}, {Kind: api.OGet}} {
 		did, _, out := lab.Alone(l, m, segment.Next, 0, gone, op, nil)
-		check(t, did, "", out, api.Out{Err: api.ErrArg, Point: -1, Gone: gone})
+		lab.Check(t, did, "", out, api.Out{Err: api.ErrArg, Point: -1, Gone: gone})
 	}
 }
 

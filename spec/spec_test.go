@@ -81,7 +81,6 @@ func TestDo(t *testing.T) {
 		{row(api.KStack, 1), api.Op{Kind: api.OGet, A: 1}, row(api.KStack, 1), 0, false},
 		{kmap(5, 7), api.Op{Kind: api.OPush, A: 5}, kmap(5, 7), 0, false},
 		{kmap(5, 7), api.Op{Kind: 0, A: 5}, kmap(5, 7), 0, false},
-		{api.Content{}, api.Op{Kind: 99}, api.Content{}, 0, false},
 	} {
 		was := api.Content{Kind: x.c.Kind, Keys: slices.Clone(x.c.Keys), Vals: slices.Clone(x.c.Vals)}
 		got, val, is := spec.Do(x.c, x.o)

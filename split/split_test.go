@@ -25,19 +25,6 @@ func laid(nodes int) (api.Layout, api.Mem) {
 
 func op(kind, m, a, b int) api.Op { return api.Op{Kind: kind, Obj: m, A: a, B: b} }
 
-func check(t *testing.T, did []string, want string, out, wantOut api.Out) {
-	t.Helper()
-	if lab.Did(did) != lab.Lines(want) {
-		t.Errorf("did:\n%s\nwant:\n%s", lab.Did(did), lab.Lines(want))
-	}
-	if len(out.Gone) == 0 {
-		out.Gone = nil
-	}
-	if !reflect.DeepEqual(out, wantOut) {
-		t.Error(out, wantOut)
-	}
-}
-
 // P20.1
 func TestParent(t *testing.T) {
 	for b, want := range map[int]int{6: 2, 0: 0, 1: 0, 2: 0, 3: 1, 4: 0, 5: 1, 7: 3, 63: 31, 32: 0, -1: 0, -8: 0, 1<<62 + 5: 5} {
@@ -111,22 +98,22 @@ func TestOneBucket(t *testing.T) {
 	gone := [][2]int{{12, 4}}
 	// Real(5) is 2 * Rev(5) + 1 = 81921.
 	did, on, out := lab.Alone(l, m, split.Next, 0, gone, op(api.OPut, 0, 5, 9), nil)
-	check(t, did, comeTo0+guard+take3+"store node3.1 81921\n store node3.2 9\n store node3.0 0\n cas node1.0 0 3\n"+clear1+"add map0.1 1\n", out, api.Out{Is: true, Point: 15, Gone: gone})
+	lab.Check(t, did, comeTo0+guard+take3+"store node3.1 81921\n store node3.2 9\n store node3.0 0\n cas node1.0 0 3\n"+clear1+"add map0.1 1\n", out, api.Out{Is: true, Point: 15, Gone: gone})
 	here := guard + "load node3.0\n load era\n store resv0.1 5\n load node3.0\n load era\n load node1.0\n load node3.1\n"
 	clear2 := clear1 + "store resv0.1 0\n"
 	did, _, out = lab.Alone(l, on, split.Next, 0, nil, op(api.OPut, 0, 5, 8), nil)
-	check(t, did, comeTo0+here+clear2, out, api.Out{Point: 10})
+	lab.Check(t, did, comeTo0+here+clear2, out, api.Out{Point: 10})
 	did, _, out = lab.Alone(l, on, split.Next, 0, nil, op(api.OGet, 0, 5, 0), nil)
-	check(t, did, comeTo0+here+"load node3.2\n"+clear2, out, api.Out{Val: 9, Is: true, Point: 10})
+	lab.Check(t, did, comeTo0+here+"load node3.2\n"+clear2, out, api.Out{Val: 9, Is: true, Point: 10})
 	did, on, out = lab.Alone(l, on, split.Next, 0, nil, op(api.ODel, 0, 5, 0), nil)
-	check(t, did, comeTo0+here+"cas node3.0 0 65536\n cas node1.0 3 0\n"+clear2+"load era\n add era 1\n add map0.1 -1\n", out, api.Out{Is: true, Point: 14, Gone: [][2]int{{3, 5}}})
+	lab.Check(t, did, comeTo0+here+"cas node3.0 0 65536\n cas node1.0 3 0\n"+clear2+"load era\n add era 1\n add map0.1 -1\n", out, api.Out{Is: true, Point: 14, Gone: [][2]int{{3, 5}}})
 	did, _, out = lab.Alone(l, on, split.Next, 0, nil, op(api.ODel, 0, 5, 0), nil)
-	check(t, did, "load map0.0\n load map0.2\n load node1.0\n load era\n store resv0.0 6\n load node1.0\n load era\n"+clear1, out, api.Out{Point: 5})
+	lab.Check(t, did, "load map0.0\n load map0.2\n load node1.0\n load era\n store resv0.0 6\n load node1.0\n load era\n"+clear1, out, api.Out{Point: 5})
 }
 
 // P20.3: the table grows, and a bucket is made.
 func TestGrows(t *testing.T) {
-	l, m := laid(12)
+	l, m := laid(30)
 	last := func(m api.Mem, k int) []string {
 		did, _, _ := lab.Alone(l, m, split.Next, 0, nil, op(api.OPut, 0, k, k), nil)
 		return did[len(did)-2:]
@@ -164,8 +151,11 @@ func TestGrows(t *testing.T) {
 			_, on, _ = lab.Alone(l, on, split.Next, 0, nil, op(api.ODel, 0, k, 0), nil)
 		}
 	}
-	if on.Cells[layout.Map(l, 0, 0)] != 4 {
+	if on.Cells[layout.Map(l, 0, 0)] != 4 || on.Cells[layout.Map(l, 0, 1)] < 8 {
 		t.Error("size", on.Cells[layout.Map(l, 0, 0)])
+	}
+	if did := last(on, 99); did[1] != "add map0.1 1" {
+		t.Error("as many buckets as there may be", did)
 	}
 }
 
@@ -176,7 +166,7 @@ func TestBucketIsThere(t *testing.T) {
 	m.Cells[layout.Node(l, 1, 0)] = 9
 	m.Cells[layout.Node(l, 9, 1)] = word.Dummy(1)
 	did, on, out := lab.Alone(l, m, split.Next, 0, nil, op(api.OGet, 0, 1, 0), nil)
-	check(t, did, "load map0.0\n load map0.3\n load map0.2\n"+guard+"load node9.0\n load era\n store resv0.1 5\n load node9.0\n load era\n load node1.0\n load node9.1\n store resv0.0 0\n store resv0.1 0\n cas map0.3 0 9\n"+
+	lab.Check(t, did, "load map0.0\n load map0.3\n load map0.2\n"+guard+"load node9.0\n load era\n store resv0.1 5\n load node9.0\n load era\n load node1.0\n load node9.1\n store resv0.0 0\n store resv0.1 0\n cas map0.3 0 9\n"+
 		"load node9.0\n load era\n store resv0.0 5\n load node9.0\n load era\n store resv0.0 0\n", out, api.Out{Point: 21})
 	if on.Cells[layout.Bucket(l, 0, 1)] != 9 {
 		t.Error("the bucket is not made")
@@ -204,18 +194,21 @@ func TestWrong(t *testing.T) {
 	bad := api.Out{Err: api.ErrArg, Point: -1, Gone: gone}
 	for _, o := range []api.Op{op(api.OGet, 2, 1, 1), op(api.OPut, -1, 1, 1), op(api.OGet, 0, -1, 1), op(api.ODel, 0, api.MaxKey, 1), op(api.OPush, 0, 1, 1), op(0, 0, 1, 1)} {
 		did, _, out := lab.Alone(l, m, split.Next, 0, gone, o, nil)
-		check(t, did, "", out, bad)
+		lab.Check(t, did, "", out, bad)
 	}
 	for _, size := range []int{0, 3, 8, -1} {
 		m.Cells[layout.Map(l, 0, 0)] = size
 		did, _, out := lab.Alone(l, m, split.Next, 0, gone, op(api.OGet, 0, 1, 0), nil)
-		check(t, did, "load map0.0", out, bad)
+		lab.Check(t, did, "load map0.0", out, bad)
 	}
 	m.Cells[layout.Map(l, 0, 0)], m.Cells[layout.Bucket(l, 0, 0)] = 1, 0
 	did, _, out := lab.Alone(l, m, split.Next, 0, gone, op(api.OGet, 0, 1, 0), nil)
-	check(t, did, "load map0.0\n load map0.2", out, bad)
+	lab.Check(t, did, "load map0.0\n load map0.2", out, bad)
 	if _, _, out := lab.Alone(l, m, split.Next, 0, nil, op(api.OGet, 1, api.MaxKey-1, 0), nil); out.Err != api.OK {
 		t.Error("the greatest key", out)
+	}
+	if _, _, out := lab.Alone(l, m, split.Next, 0, nil, op(api.OPut, 1, 0, 0), nil); !out.Is {
+		t.Error("the least key", out)
 	}
 }
 
@@ -223,10 +216,10 @@ func TestFull(t *testing.T) {
 	l, m := laid(3)
 	m.Cells[l.Free] = 0
 	did, _, out := lab.Alone(l, m, split.Next, 0, nil, op(api.OPut, 0, 5, 9), nil)
-	check(t, did, comeTo0+guard+"load free\n"+clear1, out, api.Out{Err: api.ErrFull, Point: 7})
+	lab.Check(t, did, comeTo0+guard+"load free\n"+clear1, out, api.Out{Err: api.ErrFull, Point: 7})
 	m.Cells[layout.Map(l, 0, 0)] = 2
 	did, _, out = lab.Alone(l, m, split.Next, 0, nil, op(api.OGet, 0, 5, 9), nil)
-	check(t, did, "load map0.0\n load map0.3\n load map0.2\n"+guard+"load free\n"+clear1, out, api.Out{Err: api.ErrFull, Point: 8})
+	lab.Check(t, did, "load map0.0\n load map0.3\n load map0.2\n"+guard+"load free\n"+clear1, out, api.Out{Err: api.ErrFull, Point: 8})
 }
 
 // P20.5

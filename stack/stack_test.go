@@ -1,7 +1,6 @@
 package stack_test
 
 import (
-	"reflect"
 	"slices"
 	"strconv"
 	"testing"
@@ -24,19 +23,6 @@ func laid(nodes int) (api.Layout, api.Mem) {
 
 func push(s, a int) api.Op { return api.Op{Kind: api.OPush, Obj: s, A: a} }
 func pop(s int) api.Op     { return api.Op{Kind: api.OPop, Obj: s, A: 3, B: 4} }
-
-func check(t *testing.T, did []string, want string, out, wantOut api.Out) {
-	t.Helper()
-	if lab.Did(did) != lab.Lines(want) {
-		t.Errorf("did:\n%s\nwant:\n%s", lab.Did(did), lab.Lines(want))
-	}
-	if len(out.Gone) == 0 {
-		out.Gone = nil
-	}
-	if !reflect.DeepEqual(out, wantOut) {
-		t.Error(out, wantOut)
-	}
-}
 
 func ref(idx, cnt int) int { return word.Pack(api.Ref{Idx: idx, Cnt: cnt}) }
 
@@ -74,19 +60,19 @@ func TestAlone(t *testing.T) {
 	l, m := laid(3)
 	gone := [][2]int{{9, 9}}
 	did, m, out := lab.Alone(l, m, stack.Next, 0, gone, push(1, 50), nil)
-	check(t, did, "load free\n load node1.7\n cas free 1 131074\n load era\n store node1.6 5\n store node1.1 50\n load stack1.0\n store node1.0 0\n cas stack1.0 0 131073", out, api.Out{Is: true, Point: 8, Gone: gone})
+	lab.Check(t, did, "load free\n load node1.7\n cas free 1 131074\n load era\n store node1.6 5\n store node1.1 50\n load stack1.0\n store node1.0 0\n cas stack1.0 0 131073", out, api.Out{Is: true, Point: 8, Gone: gone})
 	did, m, out = lab.Alone(l, m, stack.Next, 0, nil, push(1, 70), nil)
-	check(t, did, "load free\n load node2.7\n cas free 131074 262147\n load era\n store node2.6 5\n store node2.1 70\n load stack1.0\n store node2.0 1\n cas stack1.0 131073 262146", out, api.Out{Is: true, Point: 8})
+	lab.Check(t, did, "load free\n load node2.7\n cas free 131074 262147\n load era\n store node2.6 5\n store node2.1 70\n load stack1.0\n store node2.0 1\n cas stack1.0 131073 262146", out, api.Out{Is: true, Point: 8})
 	if !slices.Equal(stack.Row(l, m, 1), []int{70, 50}) {
 		t.Error(stack.Row(l, m, 1))
 	}
 	did, m, out = lab.Alone(l, m, stack.Next, 2, nil, pop(1), nil)
-	check(t, did, "load stack1.0\n load era\n store resv2.0 5\n load stack1.0\n load era\n load node2.0\n cas stack1.0 262146 393217\n load node2.1\n store resv2.0 0\n load era\n add era 1", out, api.Out{Val: 70, Is: true, Point: 6, Gone: [][2]int{{2, 5}}})
+	lab.Check(t, did, "load stack1.0\n load era\n store resv2.0 5\n load stack1.0\n load era\n load node2.0\n cas stack1.0 262146 393217\n load node2.1\n store resv2.0 0\n load era\n add era 1", out, api.Out{Val: 70, Is: true, Point: 6, Gone: [][2]int{{2, 5}}})
 	did, _, out = lab.Alone(l, m, stack.Next, 2, gone, pop(0), nil)
-	check(t, did, "load stack0.0\n load era\n store resv2.0 6\n load stack0.0\n load era\n store resv2.0 0", out, api.Out{Point: 3, Gone: gone})
+	lab.Check(t, did, "load stack0.0\n load era\n store resv2.0 6\n load stack0.0\n load era\n store resv2.0 0", out, api.Out{Point: 3, Gone: gone})
 	_, m, _ = lab.Alone(l, m, stack.Next, 0, nil, push(0, 1), nil)
 	did, _, out = lab.Alone(l, m, stack.Next, 0, gone, push(0, 1), nil)
-	check(t, did, "load free", out, api.Out{Err: api.ErrFull, Gone: gone})
+	lab.Check(t, did, "load free", out, api.Out{Err: api.ErrFull, Gone: gone})
 }
 
 func TestPassed(t *testing.T) {
@@ -98,7 +84,7 @@ func TestPassed(t *testing.T) {
 			m.Cells[top] = ref(0, 7)
 		}
 	})
-	check(t, did[6:], "load stack0.0\n store node2.0 1\n cas stack0.0 131073 262146 no\n load stack0.0\n store node2.0 0\n cas stack0.0 "+num(ref(0, 7))+" "+num(ref(2, 8)), out, api.Out{Is: true, Point: 11})
+	lab.Check(t, did[6:], "load stack0.0\n store node2.0 1\n cas stack0.0 131073 262146 no\n load stack0.0\n store node2.0 0\n cas stack0.0 "+num(ref(0, 7))+" "+num(ref(2, 8)), out, api.Out{Is: true, Point: 11})
 	if !slices.Equal(stack.Row(l, on, 0), []int{70}) {
 		t.Error(stack.Row(l, on, 0))
 	}
@@ -107,7 +93,7 @@ func TestPassed(t *testing.T) {
 			m.Cells[top] = ref(0, 7)
 		}
 	})
-	check(t, did[5:], "load node1.0\n cas stack0.0 131073 262144 no\n load stack0.0\n load era\n store resv0.0 0", out, api.Out{Point: 7})
+	lab.Check(t, did[5:], "load node1.0\n cas stack0.0 131073 262144 no\n load stack0.0\n load era\n store resv0.0 0", out, api.Out{Point: 7})
 	// The same node again, but counted: it is another top.
 	did, _, out = lab.Alone(l, m, stack.Next, 0, nil, pop(0), func(k int, m api.Mem) {
 		if k == 6 {
@@ -115,7 +101,7 @@ func TestPassed(t *testing.T) {
 			m.Cells[l.Era] = 8
 		}
 	})
-	check(t, did[5:], "load node1.0\n cas stack0.0 131073 262144 no\n load stack0.0\n load era\n store resv0.0 8\n load stack0.0\n load era\n load node1.0\n cas stack0.0 "+num(ref(1, 3))+" "+num(ref(0, 4))+"\n load node1.1\n store resv0.0 0\n load era\n add era 1", out, api.Out{Val: 50, Is: true, Point: 13, Gone: [][2]int{{1, 8}}})
+	lab.Check(t, did[5:], "load node1.0\n cas stack0.0 131073 262144 no\n load stack0.0\n load era\n store resv0.0 8\n load stack0.0\n load era\n load node1.0\n cas stack0.0 "+num(ref(1, 3))+" "+num(ref(0, 4))+"\n load node1.1\n store resv0.0 0\n load era\n add era 1", out, api.Out{Val: 50, Is: true, Point: 13, Gone: [][2]int{{1, 8}}})
 }
 
 func num(n int) string { return strconv.Itoa(n) }
@@ -126,7 +112,7 @@ func TestWrong(t *testing.T) {
 	gone := [][2]int{{1, 2}}
 	for _, op := range []api.Op{push(2, 1), push(-1, 1), pop(2), {Kind: 0}, {Kind: api.OSend}, {Kind: api.OGet}} {
 		did, _, out := lab.Alone(l, m, stack.Next, 0, gone, op, nil)
-		check(t, did, "", out, api.Out{Err: api.ErrArg, Point: -1, Gone: gone})
+		lab.Check(t, did, "", out, api.Out{Err: api.ErrArg, Point: -1, Gone: gone})
 	}
 }
 

@@ -1,7 +1,6 @@
 package task_test
 
 import (
-	"reflect"
 	"slices"
 	"testing"
 
@@ -45,7 +44,7 @@ func TestAlone(t *testing.T) {
 	} {
 		did, on, out := lab.Alone(l, m, task.Next, 2, gone, x.op, nil)
 		x.want.Gone = gone
-		if lab.Did(did) != lab.Lines(x.did) || !reflect.DeepEqual(out, x.want) {
+		if lab.Did(did) != lab.Lines(x.did) || !lab.SameOut(out, x.want) {
 			t.Errorf("%d: %v\n%s", i, out, lab.Did(did))
 		}
 		m = on
@@ -62,13 +61,13 @@ func TestWrong(t *testing.T) {
 	for kind := api.OMake - 1; kind <= api.OFetch+1; kind++ {
 		for _, a := range []int{0, 5, -1} {
 			did, _, out := lab.Alone(l, m, task.Next, 0, want.Gone, api.Op{Kind: kind, A: a}, nil)
-			if len(did) != 0 || !reflect.DeepEqual(out, want) {
+			if len(did) != 0 || !lab.SameOut(out, want) {
 				t.Error(kind, a, did, out)
 			}
 		}
 	}
 	for _, kind := range []int{0, api.OGet, api.OSteal, api.OAdopt} {
-		if did, _, out := lab.Alone(l, m, task.Next, 0, want.Gone, api.Op{Kind: kind, A: 1}, nil); len(did) != 0 || !reflect.DeepEqual(out, want) {
+		if did, _, out := lab.Alone(l, m, task.Next, 0, want.Gone, api.Op{Kind: kind, A: 1}, nil); len(did) != 0 || !lab.SameOut(out, want) {
 			t.Error(kind, did, out)
 		}
 	}

@@ -114,6 +114,11 @@ func TestShape(t *testing.T) {
 	}
 }
 
+func TestFails(t *testing.T) {
+	check(t, "func f() { assert 0; } func main() { x = 1; spawn f(); }\n%\nelide", "value: 0", "tasks: 2", "fails: .0")
+	check(t, "func main() { assert 0; }\n%\nelide", "value: 0", "tasks: 1", "fails: .")
+}
+
 func TestRace(t *testing.T) {
 	head := "cell a; map m; cell b; stack s; chan c; func f() { b = 1; m.put(5, 6); s.push(1); c.send(1); } func main() { spawn f(); "
 	for text, want := range map[string]string{
@@ -144,7 +149,7 @@ func TestBound(t *testing.T) {
 	steps := func(seats, picks int) string {
 		return fmt.Sprint("bound: ", bound.Steps(sample.Conf(c, seats), e, picks), " 5 3")
 	}
-	check(t, text+"\n%\nbound\nscript 0x5 1~3 1\nbound\nseats 3\nbound", steps(2, 0), steps(2, 7), steps(3, 7))
+	check(t, text+"\n%\nbound\nscript 0x5 1\nbound\nseats 3\nbound", steps(2, 0), steps(2, 6), steps(3, 6))
 }
 
 // P36.3

@@ -47,6 +47,10 @@ func TestStart(t *testing.T) {
 	if _, err := vm.Start(c, 0, []int{api.Wrap - 1}, 1, nil); err != api.OK {
 		t.Error(err)
 	}
+	c.Funs[1].Locals = 2
+	if f, err := vm.Start(c, 1, []int{7, 0}, 1, nil); err != api.OK || f.Fun != 1 || !slices.Equal(f.Local, []int{7, 0}) {
+		t.Error("the last function, all of whose locals are arguments", f, err)
+	}
 }
 
 func TestRight(t *testing.T) {
@@ -59,6 +63,7 @@ func TestRight(t *testing.T) {
 		turn func(f *api.Frame)
 	}{
 		{true, func(f *api.Frame) { f.Pc = 1 }},
+		{true, func(f *api.Frame) { f.Fun, f.Local = 1, []int{3} }},
 		{true, func(f *api.Frame) { f.Stack = make([]int, vm.Deep) }},
 		{true, func(f *api.Frame) { f.Spent = vm.Budget }},
 		{true, func(f *api.Frame) { f.Kids = []api.Kid{{Task: 1, Dst: -1}, {Task: 99, Dst: 1}} }},
@@ -133,6 +138,8 @@ func TestNext(t *testing.T) {
 		{[]api.Ins{ins(api.IPush, 3), ins(api.IPush, 3), ins(api.ILess), ins(api.IReturn)}, api.Ask{Kind: api.QReturn}, nil, 4, 4},
 		{[]api.Ins{ins(api.IPush, 3), ins(api.IPush, 3), ins(api.IEq), ins(api.IReturn)}, api.Ask{Kind: api.QReturn, A: 1}, nil, 4, 4},
 		{[]api.Ins{ins(api.IPush, 7), ins(api.ILoad, 1)}, api.Ask{Kind: api.QLoad, A: 1}, []int{7}, 2, 2},
+		{[]api.Ins{ins(api.IPush, 7), ins(api.IStore, 0)}, api.Ask{Kind: api.QStore, B: 7}, nil, 2, 2},
+		{[]api.Ins{ins(api.IPush, 7), ins(api.IZero, 0), ins(api.ILoad, 1)}, api.Ask{Kind: api.QLoad, A: 1}, nil, 3, 3},
 		{[]api.Ins{ins(api.IPush, 7), ins(api.IStore, 1)}, api.Ask{Kind: api.QStore, A: 1, B: 7}, nil, 2, 2},
 		{[]api.Ins{ins(api.IPush, 7), ins(api.IPush, 65537), ins(api.IPush, 9), ins(api.ICall, api.OPut, 0, 2)}, api.Ask{Kind: api.QCall, Op: api.Op{Kind: api.OPut, A: 1, B: 9}}, []int{7}, 4, 4},
 		{[]api.Ins{ins(api.IPush, 65537), ins(api.ICall, api.OGet, 0, 1)}, api.Ask{Kind: api.QCall, Op: api.Op{Kind: api.OGet, A: 1}}, nil, 2, 2},
@@ -187,10 +194,6 @@ func TestNextOfKids(t *testing.T) {
 	if _, a, err := vm.Next(code(ins(api.ISet, 1)), f); err != api.OK || a.Kind != api.QSync {
 		t.Error("what waits asks nothing of the stack", a, err)
 	}
-	f.Kids[0].Dst = -1
-	if _, _, err := vm.Next(code(ins(api.ILocal, -1)), f); err != api.ErrArg {
-		t.Error("a local that there is not is not awaited", err)
-	}
 }
 
 func TestAssert(t *testing.T) {
@@ -215,14 +218,14 @@ func TestNextWrong(t *testing.T) {
 	}{
 		{nil, api.ErrArg},
 		{[]api.Ins{ins(0)}, api.ErrArg}, {[]api.Ins{ins(20)}, api.ErrArg}, {[]api.Ins{ins(-1)}, api.ErrArg},
-		{[]api.Ins{ins(api.IPush)}, api.ErrArg}, {[]api.Ins{ins(api.IPush, -1)}, api.ErrArg}, {[]api.Ins{ins(api.IPush, 1<<32)}, api.ErrArg},
+		{[]api.Ins{ins(api.IPush)}, api.ErrArg}, {[]api.Ins{ins(api.IPush, -1), ins(api.ILoad)}, api.ErrArg}, {[]api.Ins{ins(api.IPush, 1<<32), ins(api.ILoad)}, api.ErrArg},
 		{[]api.Ins{ins(api.ILocal, 2)}, api.ErrArg}, {[]api.Ins{ins(api.IPush), ins(api.ISet, -1)}, api.ErrArg}, {[]api.Ins{ins(api.ISet)}, api.ErrArg},
 		{[]api.Ins{ins(api.ILoad, 2)}, api.ErrArg}, {[]api.Ins{ins(api.ILoad, -1)}, api.ErrArg}, {[]api.Ins{ins(api.IPush), ins(api.IStore, 2)}, api.ErrArg}, {[]api.Ins{ins(api.IStore)}, api.ErrArg},
 		{[]api.Ins{ins(api.IPush), ins(api.IAdd)}, api.ErrArg}, {[]api.Ins{ins(api.IDrop)}, api.ErrArg}, {[]api.Ins{ins(api.IAssert)}, api.ErrArg}, {[]api.Ins{ins(api.IReturn)}, api.ErrArg}, {[]api.Ins{ins(api.IZero)}, api.ErrArg},
 		{[]api.Ins{ins(api.ICall, api.OGet, 0, 1)}, api.ErrArg}, {[]api.Ins{ins(api.IPush), ins(api.ICall, api.OGet, 1, 1)}, api.ErrArg}, {[]api.Ins{ins(api.IPush), ins(api.ICall, api.OPop, 0, 1)}, api.ErrArg}, {[]api.Ins{ins(api.ICall, api.OPushD, 0, 0)}, api.ErrArg}, {[]api.Ins{ins(api.ICall, 0, 0, 0)}, api.ErrArg}, {[]api.Ins{ins(api.ICall, api.OPop, -1, 0)}, api.ErrArg},
 		{[]api.Ins{ins(api.ISpawn, 2, 0, 0)}, api.ErrArg}, {[]api.Ins{ins(api.ISpawn, 1, 1, 0)}, api.ErrArg}, {[]api.Ins{ins(api.IPush), ins(api.ISpawn, 0, 1, 0)}, api.ErrArg}, {[]api.Ins{ins(api.ISpawn, 0, 0, 2)}, api.ErrArg}, {[]api.Ins{ins(api.ISpawn, 0, 0, -2)}, api.ErrArg},
 		{[]api.Ins{ins(api.IJump, -1)}, api.ErrArg}, {[]api.Ins{ins(api.IJump, 1)}, api.ErrArg}, {[]api.Ins{ins(api.IPush, 1), ins(api.IZero, 9), ins(api.ILoad)}, api.ErrArg}, {[]api.Ins{ins(api.IPush, 1), ins(api.IZero, -1), ins(api.ILoad)}, api.ErrArg},
-		{append(slices.Clone(full), ins(api.IPush)), api.ErrArg}, {append(slices.Clone(full), ins(api.ILocal)), api.ErrArg}, {append(slices.Clone(full), ins(api.ILoad)), api.OK},
+		{append(slices.Clone(full), ins(api.IPush), ins(api.ILoad)), api.ErrArg}, {append(slices.Clone(full), ins(api.ILocal), ins(api.ILoad)), api.ErrArg},
 		{[]api.Ins{ins(api.IJump, 0)}, api.ErrBudget},
 	} {
 		g, a, err := vm.Next(code(x.l...), frame())
@@ -287,6 +290,14 @@ func TestTold(t *testing.T) {
 		}
 	}
 	f := frame()
+	f.Kids = []api.Kid{{Task: 1, Dst: 0}}
+	if g, err := vm.Told(f, api.Ask{Kind: api.QSync}, []int{8}); err != api.OK || !slices.Equal(g.Local, []int{8, 5}) {
+		t.Error("the first local", g, err)
+	}
+	f.Kids[0].Dst = -2
+	if _, err := vm.Told(f, api.Ask{Kind: api.QSync}, []int{8}); err != api.ErrArg {
+		t.Error("a Kid's Dst below -1", err)
+	}
 	f.Stack = make([]int, vm.Deep)
 	if _, err := vm.Told(f, api.Ask{Kind: api.QLoad}, []int{1}); err != api.ErrArg {
 		t.Error("a stack of Deep", err)
@@ -294,6 +305,21 @@ func TestTold(t *testing.T) {
 	f.Kids = []api.Kid{{Task: 1, Dst: 2}}
 	if _, err := vm.Told(f, api.Ask{Kind: api.QSync}, []int{1}); err != api.ErrArg {
 		t.Error("a Kid's Dst that there is not", err)
+	}
+}
+
+// What is handed in isn't written into, though there be room behind it.
+func TestRoom(t *testing.T) {
+	f := frame()
+	stack, kids, path := []int{1, 9, 9}, []api.Kid{{Task: 5}, {Task: 9}}, []int{1, 9}
+	f.Stack, f.Kids, f.Path = stack[:1], kids[:1], path[:1]
+	vm.Next(code(ins(api.IPush, 4), ins(api.IPush, 4), ins(api.ILoad)), f)
+	vm.Next(code(ins(api.IDrop), ins(api.IPush, 4), ins(api.ILoad)), f)
+	vm.Told(f, api.Ask{Kind: api.QLoad}, []int{4})
+	vm.Told(f, api.Ask{Kind: api.QSpawn, B: 1}, []int{4})
+	vm.Child(f)
+	if !slices.Equal(stack, []int{1, 9, 9}) || kids[1] != (api.Kid{Task: 9}) || path[1] != 9 {
+		t.Error(stack, kids, path)
 	}
 }
 
