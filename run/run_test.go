@@ -277,6 +277,30 @@ func TestAdopt(t *testing.T) {
 	}
 }
 
+// A worker that dies behind a steal, ahead of its claim: whoever sits down there claims.
+func TestClaimOfDead(t *testing.T) {
+	s := start(t, "cell x; func f() { x = 5; return 6; } func main() { a = spawn f(); return a + x; }", 2)
+	for range 10 {
+		s = run.Step(s, 0) // makes the task 2, and pushes it
+	}
+	for range 4 + 5 {
+		s = run.Step(s, 1) // finds nothing of its own, and steals it
+	}
+	if s.Seats[1].Phase != api.HClaim || s.Seats[1].Task != 2 {
+		t.Fatal(s.Seats[1])
+	}
+	s = run.Die(s, 1)
+	for i := 0; !s.Over && i < 1000; i++ {
+		s = run.Step(s, 0)
+	}
+	claims := slices.DeleteFunc(slices.Clone(s.Events), func(e api.Event) bool {
+		return e.Access.Kind != api.ACas || e.Access.Cell != layout.Task(s.Layout, 2, 0)
+	})
+	if s.Err != api.OK || s.Value != 11 || len(claims) != 1 || claims[0].Worker != 0 || claims[0].Seat != 1 || !claims[0].Result.Ok {
+		t.Error(s.Err, s.Value, claims)
+	}
+}
+
 // P31.4
 func TestPlay(t *testing.T) {
 	c := sample.Code("cell x; func f() { x = x + 1; } func main() { spawn f(); sync; return x; }")
