@@ -413,12 +413,12 @@ func objectUses(c api.Code) int {
 
 // P31.2: an operation that ends the run is called, too.
 func TestFull(t *testing.T) {
-	c := sample.Code("stack s; func main() { s.push(1); }")
+	c := sample.Code("stack s; cell x; func main() { x = 2; s.push(1); }")
 	conf := sample.Conf(c, 1)
 	conf.Nodes = 0
 	s, err := run.Play(c, conf, nil, 100)
-	want := []api.Call{{Op: api.Op{Kind: api.OPush, A: 1}}}
-	if err != api.OK || !s.Over || s.Err != api.ErrFull || !slices.Equal(s.Calls, want) || !slices.Equal(texts(s, 0), []string{"load free"}) {
+	want := []api.Call{{Op: api.Op{Kind: api.OPush, A: 1}, First: 1, Last: 1, Point: 1}}
+	if err != api.OK || !s.Over || s.Err != api.ErrFull || !slices.Equal(s.Calls, want) || !slices.Equal(texts(s, 0), []string{"store cell0 2", "load free"}) {
 		t.Error(s.Err, s.Calls)
 	}
 }
